@@ -1,0 +1,1 @@
+"""Lastfaces: who was last seen in each room of a house."""

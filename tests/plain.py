@@ -1,0 +1,251 @@
+"""Plain reckonings to hold the program against: they go through all possibilities, and call nothing of the rule.
+
+Here a house is a pair (rooms, doors) of lists, so that nothing depends on how the program keeps it.
+"""
+
+import unittest
+from itertools import combinations, permutations, product
+
+from lastfaces.errors import FaceError
+from lastfaces.houses import House
+
+# Not in order, so that what has to be ascending is not so by chance.
+NAMES = ["d", "b", "e1", "a", "c"]
+
+
+class Checks(unittest.TestCase):
+    def raises(self, error, call, *args):
+        """Asserts that a call raises just this error, keeping just these objects."""
+        kind, *kept = error
+        with self.assertRaises(FaceError) as caught:
+            call(*args)
+        self.assertIs(type(caught.exception), kind)
+        told = list(vars(caught.exception).values())
+        self.assertEqual(len(told), len(kept))
+        for one, other in zip(told, kept):
+            if type(other) in (int, str):
+                self.assertEqual((type(one), one), (type(other), other))
+            else:
+                self.assertIs(one, other)
+
+
+def odd_things():
+    """Any objects, none of them a room of the houses used here: names and others."""
+    deep = []
+    for _ in range(90):
+        deep = [deep]
+    return [
+        0, 1, -1, 7, 10 ** 60, True, False, None, "", "A", "1a", "a_", "a b", "nowhere", "x" * 13, "x" * 500, "\u00e9",
+        [], (), {}, [[]], [None], deep, ["nowhere"], [1, 2, 3], ("q", "q"), {"q": []}, {1: 2}, {None: None},
+        {"nowhere": "nowhere"}, {"x": 1}, len, lambda thing: thing, House(["h"], []), FaceError(), FaceError,
+    ]
+
+
+def no_names():
+    """Any objects that are no name."""
+    return [thing for thing in odd_things() if thing != "nowhere"]
+
+
+def no_pairs():
+    """Any objects that are no pair of rooms, persons and rooms, or the like, of the houses used here."""
+    return odd_things() + [("a",), ("a", "b", "c"), ["a", ["b"]], (["a"], "b"), ("a", None), (1, "a"), "ab", {"a": "b"}]
+
+
+def no_lists():
+    """Any objects that are no list, and no tuple."""
+    return [thing for thing in odd_things() if not isinstance(thing, (list, tuple))]
+
+
+def graph_key(size, doors):
+    """The same for graphs of rooms 0, 1, .. that are alike but for their numbers."""
+    keys = []
+    for order in permutations(range(size)):
+        keys.append(sorted(sorted((order[one], order[other])) for one, other in doors))
+    return min(keys)
+
+
+def graphs(size):
+    """One graph of each shape with so many rooms, as lists of pairs of numbers."""
+    pairs = list(combinations(range(size), 2))
+    found = {}
+    for picks in product([False, True], repeat=len(pairs)):
+        doors = [pair for pair, pick in zip(pairs, picks) if pick]
+        found[str(graph_key(size, doors))] = doors
+    return [found[key] for key in sorted(found)]
+
+
+def named(size, doors):
+    """The house of a graph."""
+    return NAMES[:size], [(NAMES[one], NAMES[other]) for one, other in doors]
+
+
+def small_houses(most=4):
+    """Houses of each shape with at most so many rooms: rings, parts that lie apart, one room alone."""
+    return [named(size, doors) for size in range(1, most + 1) for doors in graphs(size)]
+
+
+def five_room_houses():
+    """Some houses of five rooms."""
+    ring = [(0, 1), (1, 2), (2, 3), (3, 4), (4, 0)]
+    return [named(5, doors) for doors in [
+        ring, ring[:4], [(0, 1), (0, 2), (0, 3), (0, 4)], ring + [(0, 2)],
+        [(0, 1), (1, 2), (2, 0), (0, 3), (1, 4)], [(0, 1), (1, 2), (2, 3), (3, 0), (3, 4)],
+        [(0, 1), (1, 2), (3, 4)], [(0, 1), (1, 2), (2, 0), (3, 4)]]]
+
+
+def near(doors, room):
+    """The rooms a door further."""
+    return [b for a, b in doors if a == room] + [a for a, b in doors if b == room]
+
+
+def placings(rooms, people):
+    """All placings of just these people."""
+    return [dict(zip(people, chosen)) for chosen in permutations(rooms, len(people))]
+
+
+def starts(rooms, people):
+    """All starts of just these people."""
+    return [dict(zip(people, chosen)) for chosen in product(rooms, repeat=len(people))]
+
+
+def maps(rooms, faces):
+    """All maps that show these faces."""
+    return [dict(zip(rooms, chosen)) for chosen in product(faces, repeat=len(rooms))]
+
+
+def map_key(faces):
+    """A key of a map."""
+    return tuple(sorted((room, str(face)) for room, face in faces.items()))
+
+
+def walked_ends(rooms, doors, people):
+    """The pairs (placing, last faces), as keys, of all walks of just these people who stand in unlike rooms at last.
+
+    It goes through all that can be: where people are, and who went last out of each room.
+    """
+    first = [(where, (None,) * len(rooms)) for where in product(range(len(rooms)), repeat=len(people))]
+    seen = set(first)
+    queue = list(first)
+    number = {room: index for index, room in enumerate(rooms)}
+    further = [[number[room] for room in near(doors, rooms[index])] for index in range(len(rooms))]
+    while queue:
+        where, out = queue.pop()
+        for index in range(len(people)):
+            left = out[:where[index]] + (people[index],) + out[where[index] + 1:]
+            for room in further[where[index]]:
+                state = (where[:index] + (room,) + where[index + 1:], left)
+                if state not in seen:
+                    seen.add(state)
+                    queue.append(state)
+    ends = set()
+    for where, out in seen:
+        if len(set(where)) == len(where):
+            faces = dict(zip(rooms, out))
+            faces.update({rooms[room]: person for room, person in zip(where, people)})
+            ends.add((map_key({p: rooms[r] for p, r in zip(people, where)}), map_key(faces)))
+    return ends
+
+
+def component(doors, some, room):
+    """The rooms to which doors lead from a room through some rooms."""
+    found = {room}
+    grown = True
+    while grown:
+        new = {b for a in found for b in near(doors, a) if b in some and b not in found}
+        found |= new
+        grown = bool(new)
+    return frozenset(found)
+
+
+def plain_parts(doors, some):
+    """The greatest lists of some rooms that hang together."""
+    return sorted(sorted(part) for part in {component(doors, some, room) for room in some})
+
+
+def plain_lots(doors, placing, taken):
+    """The lots when these rooms are taken in: what hangs together of them, with the people who stand in it."""
+    lots = []
+    for rooms in plain_parts(doors, taken):
+        people = sorted(person for person in placing if placing[person] in rooms)
+        lots.append((people, rooms))
+    return sorted(lots)
+
+
+def plain_takable(rooms, doors, placing, faces, taken):
+    """The rooms that can be taken when these are taken in."""
+    found = []
+    for room in sorted(rooms):
+        touched = [people for people, some in plain_lots(doors, placing, taken) if set(near(doors, room)) & set(some)]
+        if room not in taken and any(faces[room] in people for people in touched):
+            found.append(room)
+    return found
+
+
+def plain_rows(rooms, doors, placing, faces):
+    """All rows, the empty one ahead, each with the rooms taken in behind it."""
+    rows = [[]]
+    for row in rows:
+        taken = list(placing.values()) + row
+        for room in plain_takable(rooms, doors, placing, faces, taken):
+            rows.append(row + [room])
+    return rows
+
+
+def plain_paper(rooms, doors, placing, faces, lots):
+    """Whether lots, pairs of lists of placed people and of rooms, are a paper."""
+    if sorted(person for people, _ in lots for person in people) != sorted(placing):
+        return False
+    all_rooms = [room for _, some in lots for room in some]
+    if len(set(all_rooms)) < len(all_rooms):
+        return False
+    if not all(placing[person] in some for people, some in lots for person in people):
+        return False
+    for people, some in lots:
+        around = {b for a in some for b in near(doors, a)} - set(some)
+        if around & set(all_rooms) or any(faces[room] in people for room in around):
+            return False
+    return any(faces[room] is not None and room not in all_rooms for room in rooms)
+
+
+def gone_through(start, steps):
+    """The list of where all are: at first, and behind each step."""
+    times = [dict(start)]
+    for person, room in steps:
+        times.append({**times[-1], person: room})
+    return times
+
+
+def plain_faces(rooms, times):
+    """Who was in each room at the latest of times at which anybody was: a list if two or more were."""
+    faces = {}
+    for room in sorted(rooms):
+        found = [sorted(p for p in where if where[p] == room) for where in times if room in where.values()]
+        last = found[-1] if found else [None]
+        faces[room] = last[0] if len(last) == 1 else last
+    return faces
+
+
+def all_walks(doors, start, most):
+    """All lists of at most so many steps from a start."""
+    rows = [[]]
+    for row in rows:
+        where = gone_through(start, row)[-1]
+        if len(row) < most:
+            rows.extend(row + [(person, room)] for person in sorted(where) for room in near(doors, where[person]))
+    return rows
+
+
+def both_kinds(thing):
+    """A thing with lists for tuples, and one with tuples for lists, at every depth."""
+    def turned(part, kind):
+        if isinstance(part, (list, tuple)):
+            return kind(turned(inner, kind) for inner in part)
+        if isinstance(part, dict):
+            return {key: turned(part[key], kind) for key in part}
+        return part
+    return turned(thing, list), turned(thing, tuple)
+
+
+def other_order(told):
+    """A dict with its keys the other way round."""
+    return {key: told[key] for key in reversed(list(told))}

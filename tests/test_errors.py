@@ -1,0 +1,95 @@
+"""Points [2] and [4], and the interface's rows: names, parameters, where things are defined."""
+
+import importlib
+import inspect
+import unittest
+
+from lastfaces import errors
+from lastfaces.errors import FaceError
+
+ERRORS = """
+BadAnswer(thing) BadAround(thing) BadAsker(thing) BadChutes(index) BadClaim(thing) BadClaims(index) BadDeed(thing)
+BadDoors(index) BadDues(thing) BadFloors(index) BadGates(index) BadGiven(thing) BadGuesses(thing) BadInn(thing)
+BadKeeper(thing) BadKept(thing) BadLandings(index) BadLists(thing) BadLooker(thing) BadMany(many) BadMap(thing)
+BadName(thing) BadNames(thing) BadNumber(thing) BadOrder(index) BadPeople(index) BadPerson(thing) BadPiece(thing)
+BadPlacing(thing) BadQuestion(thing) BadRooms(index) BadRow(index) BadRows(thing) BadSeen(thing) BadShy(thing)
+BadSome(index) BadStart(thing) BadSteps(index) BadText(line) BadTurns(index) BadWishes(index) CanBeTold()
+CommonPerson(name) CommonRoom(name) Crowded(room) HasRing() InUse(question) IsDoor(one,other) IsEnough()
+IsShown(room) IsWatched(question) LastRoom() NoCount(thing) NoDoor(one,other) NoPerson(thing) NoRoom(thing) NoSteps()
+NoTree() NoTruth(thing) NoWalks(why) NoneGoes(people) NoneLeft() NotBeside(room) NotFull(room) NotGoing(thing)
+NotLeaf(name) NotLeft(thing) NotOneGate() NotPlaced(thing) NotSeen(room) NotShown(person) NotWatched(question)
+Occupied(room) OtherPeople(person) RoomTaken(name) SameRoom(room) ShowsNobody(room) TakenPerson(person)
+TakenRoom(room) UnlikeGates() UnlikePeople() UnlikeRooms(room) WouldChange(question)
+"""
+
+FUNCTIONS = {
+    "houses": "beside(house,room)",
+    "ways": "parts(house,some) steps_between(house,one,other) way(house,one,other) round_about(house,some)",
+    "walks": "is_walk(house,start,steps) stands(house,start,steps) last_faces(house,start,steps)"
+             " first_faces(house,start,steps) turned(house,start,steps)",
+    "maps": "is_map(house,thing) shown(house,faces) seen_rooms(house,faces) rooms_of(house,faces,person)"
+            " is_placing(house,thing)",
+    "otherhouses": "part_of(house,some) built_on(house,name,some) joined_by(one,other,doors) renamed(house,names)"
+                   " without_door(house,one,other)",
+    "lotsbyrows": "row_fault(house,placing,faces,row) can_take(house,placing,faces,row)"
+                  " lots_behind(house,placing,faces,row)",
+    "therule": "last_lots(house,placing,faces) left_out(house,placing,faces) round_of(house,placing,faces)"
+               " goes_with(house,placing,faces) why_not(house,placing,faces) is_why(house,placing,faces,thing)",
+    "builtwalks": "walk_for(house,placing,faces) walk_fault(house,placing,faces,start,steps)",
+}
+
+
+def listed(text):
+    """The pairs (name, list of parameters) of a text of calls."""
+    calls = [call.rstrip(")").split("(") for call in text.split()]
+    return [(name, [part for part in told.split(",") if part]) for name, told in calls]
+
+
+class TestErrors(unittest.TestCase):
+    def test_base(self):
+        self.assertEqual(FaceError.__bases__, (ValueError,))
+        self.assertIsInstance(FaceError(), ValueError)
+
+    def test_each_error_keeps_what_it_is_made_with(self):
+        self.assertEqual(len(listed(ERRORS)), 83)
+        for name, params in listed(ERRORS):
+            with self.subTest(name):
+                error = getattr(errors, name)
+                self.assertEqual(error.__bases__, (FaceError,))
+                self.assertEqual(error.__module__, "lastfaces.errors")
+                self.assertEqual(error.__name__, name)
+                things = [[param, {}] for param in params]
+                for made in [error(*things), error(**dict(zip(params, things)))]:
+                    for param, thing in zip(params, things):
+                        self.assertIs(getattr(made, param), thing)
+
+    def test_no_other_errors(self):
+        found = [name for name, thing in vars(errors).items() if inspect.isclass(thing)]
+        self.assertEqual(sorted(found), sorted([name for name, _ in listed(ERRORS)] + ["FaceError"]))
+
+    def test_raised_and_caught(self):
+        for name, params in listed(ERRORS):
+            with self.assertRaises(FaceError):
+                raise getattr(errors, name)(*params)
+
+
+class TestInterface(unittest.TestCase):
+    def test_functions(self):
+        for module, text in FUNCTIONS.items():
+            found = importlib.import_module("lastfaces." + module)
+            for name, params in listed(text):
+                with self.subTest(name):
+                    function = vars(found)[name]
+                    self.assertTrue(inspect.isfunction(function))
+                    self.assertEqual(function.__module__, "lastfaces." + module)
+                    self.assertEqual(list(inspect.signature(function).parameters), params)
+
+    def test_house(self):
+        house = importlib.import_module("lastfaces.houses").House
+        self.assertEqual(list(inspect.signature(house).parameters), ["rooms", "doors"])
+        for name in ["rooms", "doors", "__len__", "__eq__"]:
+            self.assertIn(name, vars(house))
+
+
+if __name__ == "__main__":
+    unittest.main()
