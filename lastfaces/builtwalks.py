@@ -12,12 +12,12 @@ def walk_for(house, placing, faces):
     if not goes_with(house, placing, faces):
         return None
     row = [room for taken in take_rounds(Lots(house, placing, faces)) for room in taken]
-    begins, steps = walk_by_row(house, placing, faces, row)
-    return turned(house, begins, steps)
+    # Turned about in time, people begin where they stand at last, and first faces are last ones.
+    return turned(house, placing, steps_by_row(house, placing, faces, row))
 
 
-def walk_by_row(house, placing, faces, row):
-    """Returns a walk from a placing by which rooms are seen first as a row takes them in.
+def steps_by_row(house, placing, faces, row):
+    """Returns steps from a placing by which rooms are seen first as a row takes them in.
 
     Within its lot a person goes through rooms that were seen before, so it changes no first face.
     """
@@ -30,7 +30,7 @@ def walk_by_row(house, placing, faces, row):
         steps.extend([(person, further) for further in way[1:]])
         where[person] = room
         lots.take(room)
-    return dict(placing), steps
+    return steps
 
 
 def walk_fault(house, placing, faces, start, steps):

@@ -187,11 +187,14 @@ class TestPapers(plain.Checks):
                         [r for r, k in zip(rooms, by_room) if k == lot]) for lot in (0, 1)]
 
     def papers(self, house, rooms, doors, placing, faces, shapes):
-        """Judges all shares; tells whether one is a paper."""
+        """Judges all shares; tells whether one is a paper. No row leads out of a paper's lots."""
         found = False
+        last = last_lots(house, placing, faces)
         for lots in shapes:
             wanted = plain.plain_paper(rooms, doors, placing, faces, lots)
             self.assertIs(is_why(house, placing, faces, ("lots", lots)), wanted)
+            for people, some in last if wanted else []:
+                self.assertTrue(any(set(people) <= set(lot[0]) and set(some) <= set(lot[1]) for lot in lots))
             found = found or wanted
         return found
 
