@@ -11,9 +11,14 @@ def walk_for(house, placing, faces):
     """Returns a walk (start, steps) that ends as a placing and a map tell, None if there is none."""
     if not goes_with(house, placing, faces):
         return None
-    row = [room for taken in take_rounds(Lots(house, placing, faces)) for room in taken]
     # Turned about in time, people begin where they stand at last, and first faces are last ones.
-    return turned(house, placing, steps_by_row(house, placing, faces, row))
+    return turned(house, placing, steps_by_rounds(house, placing, faces))
+
+
+def steps_by_rounds(house, placing, faces):
+    """Returns steps from a placing by which all rooms that can be taken are seen first as a map tells."""
+    row = [room for taken in take_rounds(Lots(house, placing, faces)) for room in taken]
+    return steps_by_row(house, placing, faces, row)
 
 
 def steps_by_row(house, placing, faces, row):

@@ -1,5 +1,6 @@
 """The rule by which a map goes with a placing, and papers that show that it does not."""
 
+from lastfaces.errors import NoWalks
 from lastfaces.houses import is_room
 from lastfaces.lotsbyrows import Lots, take_rounds
 from lastfaces.maps import check_placed_map
@@ -56,6 +57,13 @@ def why_not(house, placing, faces):
     if rooms_outside(house, faces, lots):
         return "lots", lots.told()
     return None
+
+
+def check_goes(house, placing, faces):
+    """Raises BadPlacing or BadMap for what is none, then NoWalks for a map that does not go with a placing."""
+    why = why_not(house, placing, faces)
+    if why is not None:
+        raise NoWalks(why)
 
 
 def is_why(house, placing, faces, thing):

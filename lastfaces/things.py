@@ -1,5 +1,7 @@
 """What the other files ask about things of any kind."""
 
+from math import gcd
+
 LETTERS = "abcdefghijklmnopqrstuvwxyz"
 FIGURES = "0123456789"
 LONGEST_NAME = 12
@@ -20,6 +22,17 @@ def is_name(thing):
     if not isinstance(thing, str) or not 1 <= len(thing) <= LONGEST_NAME:
         return False
     return thing[0] in LETTERS and all([sign in LETTERS or sign in FIGURES for sign in thing])
+
+
+def is_number_below(thing, limit):
+    """Tells whether a thing is a number, an integer from 0 on, below a limit."""
+    return isinstance(thing, int) and not isinstance(thing, bool) and 0 <= thing < limit
+
+
+def fraction(over, under):
+    """Returns the fraction in lowest terms of two numbers, under being above 0."""
+    shared = gcd(over, under)
+    return over // shared, under // shared
 
 
 def has_just(thing, keys):

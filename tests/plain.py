@@ -3,6 +3,7 @@
 Here a house is a pair (rooms, doors) of lists, so that nothing depends on how the program keeps it.
 """
 
+import random
 import unittest
 from itertools import combinations, permutations, product
 
@@ -27,6 +28,31 @@ class Checks(unittest.TestCase):
                 self.assertEqual((type(one), one), (type(other), other))
             else:
                 self.assertIs(one, other)
+
+
+    def judge_walk(self, rooms, doors, walk, ends, last, first=None):
+        """Asserts that a pair (start, steps) is a walk with these stands and faces; returns where all are, by times."""
+        start, steps = walk
+        self.assertEqual((type(walk), type(start), type(steps)), (tuple, dict, list))
+        self.assertEqual(list(start), sorted(ends))
+        self.assertTrue(all(type(step) is tuple for step in steps))
+        times = gone_through(start, steps)
+        for (person, room), where in zip(steps, times):
+            self.assertIn(room, near(doors, where[person]))
+        self.assertEqual(times[-1], ends)
+        self.assertEqual(plain_faces(rooms, times), last)
+        if first is not None:
+            self.assertEqual(plain_faces(rooms, times[::-1]), first)
+        return times
+
+    def ascends(self, told):
+        """Asserts that all dicts within what was told are ascending by their keys."""
+        if isinstance(told, dict):
+            self.assertEqual(list(told), sorted(told))
+            told = list(told.values())
+        if isinstance(told, (list, tuple)):
+            for part in told:
+                self.ascends(part)
 
 
 def odd_things():
@@ -249,3 +275,148 @@ def both_kinds(thing):
 def other_order(told):
     """A dict with its keys the other way round."""
     return {key: told[key] for key in reversed(list(told))}
+
+
+def rooms_showing(rooms, faces, person):
+    """The ascending list of the rooms that show a person."""
+    return [room for room in sorted(rooms) if faces[room] == person]
+
+
+def plain_closure(doors, placing, faces):
+    """The rooms taken in at last: round by round, what shows one of the people of a lot beside it."""
+    taken = set(placing.values())
+    while True:
+        more = set()
+        for people, some in plain_lots(doors, placing, taken):
+            around = {b for a in some for b in near(doors, a)} - taken
+            more |= {room for room in around if faces[room] in people}
+        if not more:
+            return taken
+        taken |= more
+
+
+def plain_goes(doors, placing, faces):
+    """Whether each placed person's room shows it and all rooms that show somebody are taken in."""
+    if any(faces[placing[person]] != person for person in placing):
+        return False
+    taken = plain_closure(doors, placing, faces)
+    return all(room in taken for room in faces if faces[room] is not None)
+
+
+def going_placings(rooms, doors, faces):
+    """All placings with which a map goes, by their rooms, people ascending."""
+    people = sorted({face for face in faces.values() if face is not None})
+    choices = product(*[rooms_showing(rooms, faces, person) for person in people])
+    placings_told = [dict(zip(people, chosen)) for chosen in choices]
+    return [placing for placing in placings_told if plain_goes(doors, placing, faces)]
+
+
+def keeping(placings_told, lists):
+    """Those of some placings that have people in rooms of their lists."""
+    return [placing for placing in placings_told if all(placing[person] in lists[person] for person in lists)]
+
+
+def plain_fields(rooms, doors, faces, people):
+    return plain_parts(doors, [room for room in rooms if faces[room] in people])
+
+
+def plain_joined(rooms, doors, faces, choices):
+    """The fields that some choice, a placing out of lists for each person, joins by the rule."""
+    told = []
+    for field in plain_fields(rooms, doors, faces, list(choices)):
+        inner = [(one, other) for one, other in doors if one in field and other in field]
+        for chosen in product(*choices.values()):
+            placing = dict(zip(choices, chosen))
+            if set(chosen) <= set(field):
+                taken = plain_closure(inner, placing, {room: faces[room] for room in field})
+                if plain_lots(inner, placing, taken) == [(sorted(placing), field)]:
+                    told.append(field)
+                    break
+    return told
+
+
+def drawn_lists(rooms, faces, chance):
+    """Lists for some of the people shown, drawn by a random.Random."""
+    lists = {}
+    for person in sorted({face for face in faces.values() if face is not None}, reverse=True):
+        if chance.random() < 0.7:
+            shows = [room for room in rooms_showing(rooms, faces, person) if chance.random() < 0.6]
+            lists[person] = chance.sample(shows, len(shows))
+    return lists
+
+
+def larger_cases(many, seed, sizes=(5, 6, 7), people="pqrs"):
+    """Drawn houses and maps, as (rooms, doors, faces): most rooms show somebody."""
+    chance = random.Random(seed)
+    for _ in range(many):
+        size = chance.choice(sizes)
+        rooms = ["f", *NAMES, "aa"][:size]
+        pairs = list(combinations(rooms, 2))
+        doors = chance.sample(pairs, chance.randint(size - 2, size + 1))
+        names = people[:chance.randint(1, len(people))]
+        weights = [chance.random() + 0.1 for _ in names] + [0.15]
+        yield rooms, doors, {room: chance.choices([*names, None], weights)[0] for room in rooms}
+
+
+def walked_both(rooms, doors, begins):
+    """The triples (stands, first faces, last faces) of all walks from begins by which all stand apart at last.
+
+    Each is a row of rooms, people ascending, or of faces, rooms as they come.
+    """
+    people = sorted(begins)
+    number = {room: index for index, room in enumerate(rooms)}
+    further = [[number[room] for room in near(doors, rooms[index])] for index in range(len(rooms))]
+    where = tuple(number[begins[person]] for person in people)
+    seen_first = tuple(people[where.index(index)] if index in where else None for index in range(len(rooms)))
+    first = (where, seen_first, (None,) * len(rooms))
+    seen = {first}
+    queue = [first]
+    while queue:
+        where, came, out = queue.pop()
+        for index, person in enumerate(people):
+            left = out[:where[index]] + (person,) + out[where[index] + 1:]
+            for room in further[where[index]]:
+                now = came if came[room] else came[:room] + (person,) + came[room + 1:]
+                state = (where[:index] + (room,) + where[index + 1:], now, left)
+                if state not in seen:
+                    seen.add(state)
+                    queue.append(state)
+    ends = set()
+    for where, came, out in seen:
+        if len(set(where)) == len(where):
+            last = [people[where.index(index)] if index in where else out[index] for index in range(len(rooms))]
+            ends.add((tuple(rooms[index] for index in where), came, tuple(last)))
+    return ends
+
+
+def walked_from(rooms, doors, start, kept=None):
+    """The pairs (stands, last faces), rows of rooms and of faces, of all walks from a start in which nobody comes to
+    rooms kept from it and all stand apart at last."""
+    people = sorted(start)
+    barred = {person: (kept or {}).get(person, []) for person in people}
+    if any(start[person] in barred[person] for person in people):
+        return set()
+    first = (tuple(start[person] for person in people), (None,) * len(rooms))
+    seen = {first}
+    queue = [first]
+    while queue:
+        where, out = queue.pop()
+        for index, person in enumerate(people):
+            at = rooms.index(where[index])
+            left = out[:at] + (person,) + out[at + 1:]
+            for room in near(doors, where[index]):
+                state = (where[:index] + (room,) + where[index + 1:], left)
+                if room not in barred[person] and state not in seen:
+                    seen.add(state)
+                    queue.append(state)
+    ends = set()
+    for where, out in seen:
+        if len(set(where)) == len(where):
+            last = [people[where.index(room)] if room in where else face for room, face in zip(rooms, out)]
+            ends.add((where, tuple(last)))
+    return ends
+
+
+def row_of(told, keys):
+    """The values of a dict by some keys."""
+    return tuple(told[key] for key in keys)

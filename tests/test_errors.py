@@ -36,6 +36,23 @@ FUNCTIONS = {
     "therule": "last_lots(house,placing,faces) left_out(house,placing,faces) round_of(house,placing,faces)"
                " goes_with(house,placing,faces) why_not(house,placing,faces) is_why(house,placing,faces,thing)",
     "builtwalks": "walk_for(house,placing,faces) walk_fault(house,placing,faces,start,steps)",
+    "wants": "ring_of_doors(house) wants(house,placing,faces) ring_of_wants(house,placing,faces)",
+    "lastrooms": "some_last(house,faces) in_two(house,faces)",
+    "lastamong": "last_among(house,faces,lists) last_clash(house,faces,lists) can_stand(house,faces,lists,person)"
+                 " sure_last(house,faces,lists)",
+    "fields": "fields(house,faces,people) joined_fields(house,faces,lists,people)",
+    "lastcounts": "count_last(house,faces,lists) last_at(house,faces,lists,number)"
+                  " last_number(house,faces,lists,placing) drawn_last(house,faces,lists,chooser)",
+    "toldrooms": "stand_chances(house,faces,lists,person) left_mean(house,faces,lists,person)"
+                 " best_told(house,faces,lists) fewest_places(house,placing,faces)",
+    "bothmaps": "seen_parts(house,faces) both_walk(house,begins,first,ends,last)"
+                " both_fault(house,begins,first,ends,last) begin_rooms(house,placing,faces)"
+                " together_walk(house,first,last) together_fault(house,first,last)",
+    "firstmaps": "is_first_map(house,placing,faces,thing) count_first(house,placing,faces)"
+                 " first_at(house,placing,faces,number) first_number(house,placing,faces,thing)",
+    "keptaway": "is_kept(house,thing) kept_walk(house,placing,faces,kept) kept_paper(house,placing,faces,kept)"
+                " is_kept_paper(house,placing,faces,kept,thing) surely_came(house,placing,faces,person)"
+                " sure_people(house,placing,faces,room)",
 }
 
 
