@@ -144,9 +144,9 @@ def check_lists(house, faces, lists):
 
 
 def check_people(house, faces, people):
-    """Raises BadPeople for what is no list of one or more unlike people shown."""
+    """Raises BadMap for what is no map, then BadPeople for what is no list of one or more unlike people shown."""
     names = shown(house, faces)
-    fault = unlike_fault(people, lambda thing: thing if isinstance(thing, str) and thing in names else None)
+    fault = unlike_fault(people, lambda thing: thing if thing in names else None)
     if fault is None and len(people) == 0:
         fault = 0
     if fault is not None:
@@ -155,7 +155,6 @@ def check_people(house, faces, people):
 
 def fields(house, faces, people):
     """Returns the ascending list of the parts of the rooms that show some of people."""
-    check_map(house, faces)
     check_people(house, faces, people)
     return parts(house, [room for room in house.rooms() if faces[room] in people])
 

@@ -247,10 +247,16 @@ class TestSurely(plain.Checks):
             sure = frozenset.intersection(*found[where, last])
             for person in people:
                 wanted = sorted(room for other, room in sure if other == person)
-                self.assertEqual(surely_came(house, placing, faces, person), wanted)
+                self.assertEqual(surely_came(house, plain.other_order(placing), faces, person), wanted)
             for room in rooms:
                 wanted = sorted(person for person, other in sure if other == room)
-                self.assertEqual(sure_people(house, placing, faces, room), wanted)
+                self.assertEqual(sure_people(house, plain.other_order(placing), faces, room), wanted)
+
+    def test_several_surely(self):
+        placing, faces = {"z": "c", "y": "a", "x": "b"}, {"a": "y", "b": "x", "c": "z", "d": "y"}
+        row = House(["a", "b", "c", "d"], [("a", "b"), ("b", "c"), ("c", "d")])
+        self.assertEqual(sure_people(row, placing, faces, "c"), ["y", "z"])
+        self.assertEqual(surely_came(row, placing, faces, "y"), ["a", "b", "c", "d"])
 
     def test_errors_in_order(self):
         for thing in plain.odd_things():
