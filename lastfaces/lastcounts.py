@@ -37,7 +37,7 @@ class Joinings:
         """Returns how many choices end in fields among free rooms, no door between two, the first one that of part."""
         many = 0
         for field in self._piece.fields_of(part):
-            if field & free == field:
+            if (field & free) == field:
                 left = free & ~field & ~self._piece.around(field)
                 behind = self._ending_apart(rest, left)
                 if behind > 0:
