@@ -4,6 +4,7 @@ from lastfaces.errors import BadNumber, NoneGoes, NotGoing
 from lastfaces.fields import check_lists, splits
 from lastfaces.lastamong import last_clash, pieces_of
 from lastfaces.maps import is_placing
+from lastfaces.roombits import many_bits
 from lastfaces.therule import goes_with
 from lastfaces.things import is_number_below
 
@@ -123,15 +124,6 @@ class Placings:
             number += sum([self.count_with({**ahead, person: room}) for room in rooms])
             ahead[person] = placing[person]
         return number
-
-
-def many_bits(bits):
-    """Returns how many bits a number has."""
-    many = 0
-    while bits:
-        bits &= bits - 1
-        many += 1
-    return many
 
 
 def keeps(house, faces, lists, thing):

@@ -59,3 +59,15 @@ def unlike_fault(things, key_of):
 def names_fault(things):
     """Returns the index of the first thing that is no name or stood before: 0 for no list, None if there is none."""
     return unlike_fault(things, lambda thing: thing if is_name(thing) else None)
+
+
+def new_names(many, names):
+    """Returns the list of so many unlike names that are none of some names."""
+    told = []
+    number = 0
+    while len(told) < many:
+        name = f"n{number}"
+        if name not in names:
+            told.append(name)
+        number += 1
+    return told

@@ -12,48 +12,61 @@ def is_start(house, thing):
     return all([is_name(person) and is_room(house, room) for person, room in thing.items()])
 
 
-def is_step(house, where, thing):
-    """Tells of any object whether it is a step that can be gone by people who are where a dict tells."""
+def is_step(onward, where, thing):
+    """Tells of any object whether it is a step that can be gone by people who are where a dict tells.
+
+    onward tells of a room the list of those to which one can go from it.
+    """
     if not is_pair(thing):
         return False
     person, room = thing
-    return is_name(person) and person in where and room in beside(house, where[person])
+    return is_name(person) and person in where and room in onward(where[person])
 
 
-def steps_fault(house, start, steps):
+def steps_fault(onward, start, steps):
     """Returns the index of the first step that cannot be gone: 0 for no list, None if there is none."""
     if not is_list(steps):
         return 0
     where = dict(start)
     for index, step in enumerate(steps):
-        if not is_step(house, where, step):
+        if not is_step(onward, where, step):
             return index
         person, room = step
         where[person] = room
     return None
 
 
-def check_walk(house, start, steps):
+def check_steps(house, onward, start, steps):
     """Raises BadStart for what is no start, then BadSteps for what cannot be gone from it."""
     if not is_start(house, start):
         raise BadStart(start)
-    fault = steps_fault(house, start, steps)
+    fault = steps_fault(onward, start, steps)
     if fault is not None:
         raise BadSteps(fault)
 
 
+def check_walk(house, start, steps):
+    """Raises BadStart for what is no start, then BadSteps for what cannot be gone from it by doors."""
+    check_steps(house, lambda room: beside(house, room), start, steps)
+
+
 def is_walk(house, start, steps):
     """Tells of any two objects whether they are a start and steps that can be gone one behind another."""
-    return is_start(house, start) and steps_fault(house, start, steps) is None
+    return is_start(house, start) and steps_fault(lambda room: beside(house, room), start, steps) is None
+
+
+def stands_behind(start, steps):
+    """Returns the dict from all people to the rooms where they are behind steps that can be gone."""
+    where = {person: start[person] for person in sorted(start)}
+    for person, room in steps:
+        where[person] = room
+    return where
 
 
 def stands(house, start, steps):
     """Returns the dict from all people to the rooms where they are at last."""
     check_walk(house, start, steps)
-    where = {person: start[person] for person in sorted(start)}
-    for person, room in steps:
-        where[person] = room
-    return where
+    return stands_behind(start, steps)
 
 
 def check_alone(house, where):
@@ -66,7 +79,13 @@ def check_alone(house, where):
 
 def last_faces(house, start, steps):
     """Returns the dict from all rooms to who stands there at last, else went out of it last, else None."""
-    at_last = stands(house, start, steps)
+    check_walk(house, start, steps)
+    return faces_behind(house, start, steps)
+
+
+def faces_behind(house, start, steps):
+    """Returns the last faces behind steps that can be gone."""
+    at_last = stands_behind(start, steps)
     check_alone(house, at_last)
     faces = {room: None for room in house.rooms()}
     where = dict(start)
@@ -93,10 +112,15 @@ def first_faces(house, start, steps):
 
 def turned(house, start, steps):
     """Returns the pair (start, steps) of the walk that goes all steps back, the last one first."""
-    at_last = stands(house, start, steps)
+    check_walk(house, start, steps)
+    return turned_steps(start, steps)
+
+
+def turned_steps(start, steps):
+    """Returns the pair (start, steps) of steps that can be gone, all turned about."""
     where = dict(start)
     back = []
     for person, room in steps:
         back.append((person, where[person]))
         where[person] = room
-    return at_last, list(reversed(back))
+    return stands_behind(start, steps), list(reversed(back))

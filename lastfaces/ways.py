@@ -3,17 +3,18 @@
 from lastfaces.houses import beside, check_room, check_some
 
 
-def reached(house, some, one):
-    """Returns a dict of the rooms to which doors lead from one through rooms of some alone, nearest first.
+def reached_by(onward, some, one):
+    """Returns a dict of the rooms to which one comes from one through rooms of some alone, nearest first.
 
-    It tells of each the room ahead of it on a shortest way, None of one itself.
+    onward tells of a room the list of those next to it. The dict tells of each room the one ahead of it on a
+    shortest way, None of one itself.
     """
     ahead = {one: None}
     edge = [one]
     while edge:
         further = []
         for room in edge:
-            for near in beside(house, room):
+            for near in onward(room):
                 if near in some and near not in ahead:
                     ahead[near] = room
                     further.append(near)
@@ -21,15 +22,28 @@ def reached(house, some, one):
     return ahead
 
 
-def way_through(house, some, one, other):
-    """Returns the rooms of a shortest way from one to other through rooms of some alone, None if there is none."""
-    ahead = reached(house, some, one)
+def way_by(onward, some, one, other):
+    """Returns the rooms of such a shortest way from one to other, None if there is none."""
+    ahead = reached_by(onward, some, one)
     if other not in ahead:
         return None
     back = [other]
     while back[-1] != one:
         back.append(ahead[back[-1]])
     return list(reversed(back))
+
+
+def reached(house, some, one):
+    """Returns a dict of the rooms to which doors lead from one through rooms of some alone, nearest first.
+
+    It tells of each the room ahead of it on a shortest way, None of one itself.
+    """
+    return reached_by(lambda room: beside(house, room), some, one)
+
+
+def way_through(house, some, one, other):
+    """Returns the rooms of a shortest way from one to other through rooms of some alone, None if there is none."""
+    return way_by(lambda room: beside(house, room), some, one, other)
 
 
 def parts(house, some):

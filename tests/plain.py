@@ -420,3 +420,116 @@ def walked_from(rooms, doors, start, kept=None):
 def row_of(told, keys):
     """The values of a dict by some keys."""
     return tuple(told[key] for key in keys)
+
+
+def going_maps(rooms, doors, placing):
+    """All maps that go with a placing."""
+    others = [room for room in rooms if room not in placing.values()]
+    own = {room: person for person, room in placing.items()}
+    told = [{**own, **faces} for faces in maps(others, [None, *placing])]
+    return [faces for faces in told if plain_goes(doors, placing, faces)]
+
+
+def going_cases(houses, most, every=1):
+    """Placings of at most so many people and maps that go with them, as (rooms, doors, placing, faces); some of all."""
+    index = 0
+    for rooms, doors in houses:
+        for many in range(min(most, len(rooms)) + 1):
+            for placing in placings(rooms, ["y", "x", "z"][:many]):
+                for faces in going_maps(rooms, doors, placing):
+                    index += 1
+                    if index % every == 0:
+                        yield rooms, doors, placing, faces
+
+
+def left_of(rooms, placing, faces):
+    """The left rooms: those that show somebody and in which nobody is placed."""
+    return [room for room in sorted(rooms) if faces[room] and room not in placing.values()]
+
+
+def plain_orders(rooms, doors, placing, faces):
+    """All rows of all left rooms, ascending."""
+    many = len(left_of(rooms, placing, faces))
+    told, takable = [[]], {}
+    for _ in range(many):
+        further = []
+        for row in told:
+            taken = [*placing.values(), *row]
+            key = frozenset(taken)
+            if key not in takable:
+                takable[key] = plain_takable(rooms, doors, placing, faces, taken)
+            further += [row + [room] for room in takable[key]]
+        told = further
+    return sorted(told)
+
+
+def walked_orders(rooms, doors, people):
+    """The triples (stands, last faces, order) of all walks of just these people who stand apart at last.
+
+    The order has the rooms that were left and in which nobody stands, the one first that was left last. Each state
+    is where people are, and the rooms that were left, with who left them last, the latest one first.
+    """
+    first = [(where, ()) for where in product(rooms, repeat=len(people))]
+    seen = set(first)
+    queue = list(first)
+    while queue:
+        where, out = queue.pop()
+        for index, person in enumerate(people):
+            old = where[index]
+            behind = ((old, person),) + tuple(pair for pair in out if pair[0] != old)
+            for room in near(doors, old):
+                state = (where[:index] + (room,) + where[index + 1:], behind)
+                if state not in seen:
+                    seen.add(state)
+                    queue.append(state)
+    told = set()
+    for where, out in seen:
+        if len(set(where)) == len(where):
+            faces = {**dict.fromkeys(rooms), **dict(out), **dict(zip(where, people))}
+            order = tuple(room for room, _ in out if room not in where)
+            told.add((where, row_of(faces, rooms), order))
+    return told
+
+
+def is_forest(rooms, doors):
+    """Whether doors make no ring: then there are just as many as rooms, less the parts."""
+    return len(doors) == len(rooms) - len(plain_parts(doors, rooms))
+
+
+def grown_map(rooms, doors, placing, chance, most=1000):
+    """A map that goes with a placing, drawn by a random.Random: in which all rooms that can be come to show somebody.
+
+    Or, of these, so many at most in which nobody stands.
+    """
+    faces = {**dict.fromkeys(rooms), **{room: person for person, room in placing.items()}}
+    for _ in range(most):
+        taken = [room for room in rooms if faces[room]]
+        edge = [(a, b) for one, other in doors for a, b in [(one, other), (other, one)] if faces[a] and not faces[b]]
+        if not edge:
+            break
+        one, room = chance.choice(edge)
+        part = component(doors, taken, one)
+        faces[room] = chance.choice([person for person in sorted(placing) if placing[person] in part])
+    return faces
+
+
+def grown_cases(many, seed, sizes=(4, 5, 6), most=3, rings=True):
+    """Drawn houses, placings and maps that go with them, most rooms showing somebody; without rings if told so."""
+    chance = random.Random(seed)
+    while many > 0:
+        size = chance.choice(sizes)
+        rooms = chance.sample(["f", *NAMES, "aa"][:size], size)
+        doors = chance.sample(list(combinations(rooms, 2)), chance.randint(size - 2, size + 1 if rings else size - 1))
+        if rings or is_forest(rooms, doors):
+            many -= 1
+            people = chance.sample(["q", "p", "r", "s"], chance.randint(1, most))
+            placing = dict(zip(people, chance.sample(rooms, len(people))))
+            yield rooms, doors, placing, grown_map(rooms, doors, placing, chance, chance.choice([size, size, 2]))
+
+
+def drawn_house(size, many, chance):
+    """A house of so many rooms that hangs together, with so many doors."""
+    rooms = [f"r{k:02d}" for k in range(size)]
+    doors = [(rooms[chance.randrange(k)], rooms[k]) for k in range(1, size)]
+    pairs = [pair for pair in combinations(rooms, 2) if pair not in doors]
+    return rooms, doors + chance.sample(pairs, many - len(doors))

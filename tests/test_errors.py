@@ -53,6 +53,26 @@ FUNCTIONS = {
     "keptaway": "is_kept(house,thing) kept_walk(house,placing,faces,kept) kept_paper(house,placing,faces,kept)"
                 " is_kept_paper(house,placing,faces,kept,thing) surely_came(house,placing,faces,person)"
                 " sure_people(house,placing,faces,room)",
+    "guesses": "is_guesses(house,thing) wiped(house,faces,some,people) is_within(house,guesses,thing)",
+    "fillings": "filling(house,placing,guesses) filling_paper(house,placing,guesses)"
+                " could_show(house,placing,guesses,room) narrowed(house,placing,guesses)"
+                " sure_faces(house,placing,guesses) most_seen(house,placing,guesses) fullest(house,placing,guesses)"
+                " last_rooms(house,placing,guesses) count_fillings(house,placing,guesses)",
+    "enough": "follows(house,placing,faces,room) needless(house,placing,faces)"
+              " tells_enough(house,placing,faces,some) fewest_told(house,placing,faces)",
+    "orders": "left_rooms(house,placing,faces) is_order(house,placing,faces,thing) order_of(house,start,steps)"
+              " walk_in_order(house,placing,faces,order)",
+    "aheads": "always_ahead(house,placing,faces,room,other) ahead_pairs(house,placing,faces)"
+              " leading_rooms(house,placing,faces) ending_rooms(house,placing,faces)"
+              " places_of(house,placing,faces,room)",
+    "wishes": "order_with(house,placing,faces,wishes) wish_paper(house,placing,faces,wishes)"
+              " is_wish_paper(house,placing,faces,wishes,thing)",
+    "exchanges": "apart(house,placing,faces,one,other) order_row(house,placing,faces,one,other)",
+    "ordercounts": "count_orders(house,placing,faces) order_numbered(house,placing,faces,number)"
+                   " order_number(house,placing,faces,order) next_order(house,placing,faces,order)"
+                   " ahead_chance(house,placing,faces,room,other) mean_place(house,placing,faces,room)",
+    "dues": "order_by(house,placing,faces,dues) due_paper(house,placing,faces,dues)",
+    "takings": "taken_by(house,placing,faces,row) first_left(house,placing,faces,row)",
 }
 
 

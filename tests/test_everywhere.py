@@ -1,14 +1,21 @@
-"""Points [2] to [6] of all functions of sections 3 to 6: what is told is new, what was passed is unchanged, lists and
+"""Points [2] to [6] of all functions of sections 3 to 8: what is told is new, what was passed is unchanged, lists and
 tuples stand for one another, and nothing is kept from one call to the next."""
 
 import copy
 import unittest
 
 import plain
+from lastfaces.aheads import ahead_pairs, always_ahead, ending_rooms, leading_rooms, places_of
 from lastfaces.bothmaps import begin_rooms, both_fault, both_walk, seen_parts, together_fault, together_walk
 from lastfaces.builtwalks import walk_fault, walk_for
+from lastfaces.dues import due_paper, order_by
+from lastfaces.enough import fewest_told, follows, needless, tells_enough
+from lastfaces.exchanges import apart, order_row
 from lastfaces.fields import fields, joined_fields
+from lastfaces.fillings import could_show, count_fillings, filling, filling_paper, fullest, last_rooms, most_seen
+from lastfaces.fillings import narrowed, sure_faces
 from lastfaces.firstmaps import count_first, first_at, first_number, is_first_map
+from lastfaces.guesses import is_guesses, is_within, wiped
 from lastfaces.houses import House, beside
 from lastfaces.keptaway import is_kept, is_kept_paper, kept_paper, kept_walk, sure_people, surely_came
 from lastfaces.lastamong import can_stand, last_among, last_clash, sure_last
@@ -16,11 +23,15 @@ from lastfaces.lastcounts import count_last, drawn_last, last_at, last_number
 from lastfaces.lastrooms import in_two, some_last
 from lastfaces.lotsbyrows import can_take, lots_behind, row_fault
 from lastfaces.maps import is_map, is_placing, rooms_of, seen_rooms, shown
+from lastfaces.ordercounts import ahead_chance, count_orders, mean_place, next_order, order_number, order_numbered
+from lastfaces.orders import is_order, left_rooms, order_of, walk_in_order
+from lastfaces.takings import first_left, taken_by
 from lastfaces.therule import goes_with, is_why, last_lots, left_out, round_of, why_not
 from lastfaces.toldrooms import best_told, fewest_places, left_mean, stand_chances
 from lastfaces.walks import first_faces, is_walk, last_faces, stands, turned
 from lastfaces.wants import ring_of_doors, ring_of_wants, wants
 from lastfaces.ways import parts, round_about, steps_between, way
+from lastfaces.wishes import is_wish_paper, order_with, wish_paper
 
 ROOMS = ["f", "d", "b", "a", "c", "e"]
 ROW = [("a", "b"), ("c", "b"), ("c", "d"), ("f", "e")]
@@ -31,6 +42,9 @@ STUCK = {**NONE, "a": "x", "b": "y", "c": "x", "d": "y"}
 GOES = {**NONE, "a": "x", "b": "x", "c": "y", "d": "y"}
 OTHER = {**NONE, "a": "x", "b": "y", "c": "y", "d": "y"}
 PARTED = {**STUCK, "c": None, "f": "x"}
+GUESSES = {"f": [None, "x"], "e": [None], "d": ["y"], "c": ["w", None, "y", "x"], "b": ["y", "x"], "a": [None, "x"]}
+NO_FILLING = {**GUESSES, "f": ["x", "y"]}
+ALL_X = {**NONE, "a": "x", "b": "x", "c": "x", "d": "x"}
 WALK = ({"y": "c", "x": "a"}, [("x", "b"), ("y", "b"), ("x", "c"), ("x", "d"), ("x", "c")])
 
 # Functions with what they are asked behind a house; the house has a ring but where a function wants none.
@@ -96,8 +110,47 @@ CALLS = [
     (is_kept_paper, ENDS, GOES, {"x": ["d", "b"]}, ("rooms", ["a", "d", "c"], "b")),
     (surely_came, ENDS, GOES, "x"),
     (sure_people, ENDS, GOES, "b"),
+    (is_guesses, GUESSES),
+    (wiped, GOES, ["d", "b"], ["z", "y"]),
+    (is_within, GUESSES, GOES),
+    (filling, ENDS, GUESSES),
+    (filling_paper, ENDS, NO_FILLING),
+    (could_show, ENDS, GUESSES, "c"),
+    (narrowed, ENDS, GUESSES),
+    (sure_faces, ENDS, GUESSES),
+    (most_seen, ENDS, GUESSES),
+    (fullest, ENDS, GUESSES),
+    (last_rooms, ENDS, GUESSES),
+    (count_fillings, ENDS, GUESSES),
+    (follows, ENDS, GOES, "b"),
+    (needless, ENDS, GOES),
+    (tells_enough, ENDS, GOES, ["d", "b", "c", "e", "f"]),
+    (fewest_told, ENDS, GOES),
+    (left_rooms, ENDS, GOES),
+    (is_order, ENDS, GOES, ["c", "b"]),
+    (order_of, *WALK),
+    (walk_in_order, ENDS, GOES, ["c", "b"]),
+    (always_ahead, ENDS, GOES, "c", "b"),
+    (ahead_pairs, ENDS, {**GOES, "b": None}),
+    (leading_rooms, ENDS, GOES),
+    (ending_rooms, ENDS, GOES),
+    (places_of, ENDS, GOES, "c"),
+    (order_with, ENDS, GOES, [("c", "b"), ("c", "b")]),
+    (wish_paper, ENDS, GOES, [("c", "b"), ("b", "c")]),
+    (is_wish_paper, ENDS, GOES, [("c", "b"), ("b", "c")], ["c", "b"]),
+    (apart, ENDS, GOES, ["c", "b"], ["b", "c"]),
+    (order_row, ENDS, GOES, ["c", "b"], ["b", "c"]),
+    (count_orders, ENDS, GOES),
+    (order_numbered, ENDS, GOES, 1),
+    (order_number, ENDS, GOES, ["c", "b"]),
+    (next_order, ENDS, GOES, ["b", "c"]),
+    (ahead_chance, ENDS, GOES, "b", "c"),
+    (mean_place, ENDS, GOES, "c"),
+    (taken_by, ENDS, STUCK, ["y", "x"]),
+    (first_left, ENDS, STUCK, ["y", "x"]),
 ]
-WITHOUT_RINGS = [(wants, ENDS, STUCK), (ring_of_wants, ENDS, STUCK)]
+WITHOUT_RINGS = [(wants, ENDS, STUCK), (ring_of_wants, ENDS, STUCK), (order_by, {"x": "b"}, ALL_X, {"d": 3, "a": 1}),
+                 (due_paper, {"x": "b"}, ALL_X, {"d": 2, "a": 1}), (ahead_pairs, {"x": "b"}, ALL_X)]
 EACH = [(RING, *case) for case in CALLS] + [(ROW, *case) for case in WITHOUT_RINGS]
 
 # Pairs of rows that a function is asked in turns.
@@ -134,15 +187,41 @@ TURNS = [
     (kept_paper, (ENDS, GOES, {"x": ["d"]}), (ENDS, GOES, {"x": ["b"]})),
     (surely_came, (ENDS, GOES, "x"), (ENDS, OTHER, "x")),
     (sure_people, (ENDS, GOES, "b"), (ENDS, OTHER, "b")),
+    (wiped, (GOES, ["a"], ["x"]), (OTHER, ["a", "b"], [])),
+    (is_within, (GUESSES, GOES), ({**GUESSES, "b": ["y"]}, GOES)),
+    (filling, (ENDS, GUESSES), (ENDS, NO_FILLING)),
+    (filling, (ENDS, GUESSES), (ENDS, {**GUESSES, "c": ["x"]})),
+    (filling_paper, (ENDS, NO_FILLING), (ENDS, {**GUESSES, "d": ["x"]})),
+    (could_show, (ENDS, GUESSES, "c"), (ENDS, {**GUESSES, "b": ["x"], "d": ["y", "x"], "c": ["x", "w"]}, "c")),
+    (narrowed, (ENDS, GUESSES), (ENDS, {**GUESSES, "b": ["y"]})),
+    (sure_faces, (ENDS, GUESSES), (ENDS, {**GUESSES, "b": ["y"]})),
+    (most_seen, (ENDS, GUESSES), (ENDS, {**GUESSES, "c": [None]})),
+    (last_rooms, (ENDS, GUESSES), (ENDS, NO_FILLING)),
+    (count_fillings, (ENDS, GUESSES), (ENDS, {**GUESSES, "b": ["y"]})),
+    (needless, ({"x": "a"}, {**ALL_X, "d": None}), ({"x": "c"}, {**ALL_X, "d": None})),
+    (fewest_told, ({"x": "a"}, {**ALL_X, "d": None}), ({"x": "c"}, {**ALL_X, "d": None})),
+    (left_rooms, (ENDS, GOES), (ENDS, {**GOES, "b": None})),
+    (walk_in_order, (ENDS, GOES, ["c", "b"]), (ENDS, GOES, ["b", "c"])),
+    (ahead_pairs, ({"x": "b"}, {**ALL_X, "d": None}), ({"x": "a"}, {**ALL_X, "d": None})),
+    (places_of, ({"x": "b"}, ALL_X, "d"), ({"x": "c"}, ALL_X, "d")),
+    (order_with, (ENDS, GOES, [("c", "b")]), (ENDS, GOES, [("b", "c")])),
+    (wish_paper, (ENDS, GOES, [("c", "b")]), (ENDS, GOES, [("b", "c"), ("c", "b")])),
+    (order_row, (ENDS, GOES, ["c", "b"], ["b", "c"]), (ENDS, GOES, ["b", "c"], ["c", "b"])),
+    (count_orders, ({"x": "b"}, ALL_X), (ENDS, GOES)),
+    (order_numbered, ({"x": "b"}, ALL_X, 1), ({"x": "d"}, ALL_X, 1)),
+    (next_order, (ENDS, GOES, ["b", "c"]), (ENDS, GOES, ["c", "b"])),
+    (mean_place, ({"x": "b"}, ALL_X, "d"), ({"x": "c"}, ALL_X, "d")),
+    (taken_by, (ENDS, STUCK, ["y", "x"]), (ENDS, GOES, ["x", "y", "x"])),
+    (first_left, (ENDS, GOES, ["x"]), (ENDS, GOES, ["y"])),
 ]
 
 
-def order_of(thing):
+def ordered(thing):
     """A thing with the order of its dicts, at every depth."""
     if isinstance(thing, dict):
-        return [(key, order_of(thing[key])) for key in thing]
+        return [(key, ordered(thing[key])) for key in thing]
     if isinstance(thing, (list, tuple)):
-        return [type(thing), *[order_of(part) for part in thing]]
+        return [type(thing), *[ordered(part) for part in thing]]
     return thing
 
 
@@ -178,12 +257,12 @@ class TestEverywhere(plain.Checks):
                 passed = copy.deepcopy(args)
                 told = call(house, *passed)
                 self.ascends(told)
-                self.assertEqual(order_of(passed), order_of(args))
+                self.assertEqual(ordered(passed), ordered(args))
                 kept = copy.deepcopy(told)
                 spoil(told)
-                self.assertEqual(order_of(passed), order_of(args))
+                self.assertEqual(ordered(passed), ordered(args))
                 again = call(house, *passed)
-                self.assertEqual(order_of(again), order_of(kept))
+                self.assertEqual(ordered(again), ordered(kept))
                 self.assertEqual(house, House(ROOMS, doors))
 
     def test_equal_arguments(self):
@@ -193,7 +272,7 @@ class TestEverywhere(plain.Checks):
                 lists, tuples = plain.both_kinds(args)
                 again = House(tuple(sorted(ROOMS)), [list(door[::-1]) for door in doors[::-1]])
                 for other in [lists, tuples, [self.turned_dicts(part) for part in args]]:
-                    self.assertEqual(order_of(call(again, *other)), order_of(told))
+                    self.assertEqual(ordered(call(again, *other)), ordered(told))
 
     def turned_dicts(self, part):
         if isinstance(part, dict):
@@ -208,7 +287,7 @@ class TestEverywhere(plain.Checks):
                 self.assertNotEqual(*fresh)
                 for _ in range(2):
                     for args, wanted in zip((one, other), fresh):
-                        self.assertEqual(order_of(call(house, *args)), order_of(wanted))
+                        self.assertEqual(ordered(call(house, *args)), ordered(wanted))
 
     def test_changed_in_place(self):
         house = House(ROOMS, RING)
@@ -225,8 +304,9 @@ class TestEverywhere(plain.Checks):
                     self.assertEqual(call(house, *passed), call(House(ROOMS, RING), *now))
 
     def test_turns_between_houses(self):
-        more = [(goes_with, ENDS, GOES), (count_last, STUCK, {}), (surely_came, ENDS, GOES, "x")]
-        for call, *args in WITHOUT_RINGS + more:
+        more = [(goes_with, ENDS, GOES), (count_last, STUCK, {}), (surely_came, ENDS, GOES, "x"),
+                (narrowed, ENDS, GUESSES), (count_fillings, ENDS, GUESSES), (taken_by, {"x": "b"}, ALL_X, ["x"])]
+        for call, *args in WITHOUT_RINGS[:2] + more:
             told = [call(House(ROOMS, ROW), *args), call(House(ROOMS, ROW[:3]), *args)]
             houses = [House(ROOMS, ROW), House(ROOMS, ROW[:3])]
             for _ in range(2):
@@ -247,6 +327,22 @@ class TestEverywhere(plain.Checks):
         self.assertEqual(first_number(house, ENDS, GOES, first_at(house, ENDS, GOES, 5)), 5)
         kept = {person: parts(house, rooms)[0] for person, rooms in begin_rooms(house, ENDS, GOES).items()}
         self.assertIs(is_kept(house, kept), True)
+
+    def test_what_was_told_of_guesses_and_orders_may_be_passed_on(self):
+        house = House(ROOMS, RING)
+        told = narrowed(house, ENDS, GUESSES)
+        self.assertIs(is_guesses(house, told), True)
+        self.assertEqual(count_fillings(house, ENDS, told), count_fillings(house, ENDS, GUESSES))
+        self.assertIs(goes_with(house, ENDS, fullest(house, ENDS, told)), True)
+        self.assertIs(tells_enough(house, ENDS, GOES, fewest_told(house, ENDS, GOES)), True)
+        self.assertIs(is_within(house, wiped(house, GOES, ["b"], ["x"]), GOES), True)
+        order = order_numbered(house, ENDS, GOES, 0)
+        row = order_row(house, ENDS, GOES, order, next_order(house, ENDS, GOES, order))
+        self.assertEqual([order_number(house, ENDS, GOES, told) for told in row], [0, 1])
+        self.assertEqual(order_of(house, *walk_in_order(house, ENDS, GOES, row[1])), row[1])
+        paper = wish_paper(house, ENDS, GOES, [("b", "b")])
+        self.assertIs(is_wish_paper(house, ENDS, GOES, [("b", "b")], paper), True)
+        self.assertIsNotNone(order_with(house, ENDS, GOES, ahead_pairs(house, ENDS, GOES)))
 
 
 if __name__ == "__main__":
