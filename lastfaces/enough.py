@@ -1,7 +1,5 @@
 """Which rooms' faces follow from the others, and which rooms tell enough."""
 
-from itertools import combinations
-
 from lastfaces.fillings import Fillings
 from lastfaces.guesses import wiped
 from lastfaces.houses import check_room, check_some
@@ -10,7 +8,7 @@ from lastfaces.therule import check_goes
 
 def are_sure(house, placing, faces, some):
     """Tells whether each of some rooms, all of these being wiped, can show one face alone."""
-    fillings = Fillings(house, placing, wiped(house, faces, some, sorted(placing)))
+    fillings = Fillings(house, placing, wiped(house, faces, some, list(placing)))
     for room in some:
         if len(fillings.possible(room)) > 1:
             return False
@@ -38,15 +36,10 @@ def tells_enough(house, placing, faces, some):
 
 
 def fewest_told(house, placing, faces):
-    """Returns the first of the shortest ascending lists of rooms that tell enough."""
+    """Returns the first of the shortest ascending lists of rooms that tell enough.
+
+    A room that does not follow from all others has to be told. All these are enough: from a map to another one
+    leads a row of maps that go, each with one face changed, at the rooms alone at which both are unlike.
+    """
     spare = needless(house, placing, faces)
-    stood = list(placing.values())
-    # Whatever else is told, a room that does not follow from all others has to be.
-    always = [room for room in house.rooms() if room not in spare]
-    spare = [room for room in spare if room not in stood]
-    for many in range(len(spare) + 1):
-        for more in combinations(spare, many):
-            told = sorted(always + list(more))
-            if tells_enough(house, placing, faces, told):
-                return told
-    return house.rooms()
+    return [room for room in house.rooms() if room not in spare]

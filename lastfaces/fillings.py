@@ -23,10 +23,6 @@ class Fillings:
     def _grown(self, shows):
         return grown_lots(self._bits, single_lots(self._bits, self._own, shows), self._bits.every_room())
 
-    def faces_of(self, room):
-        """Returns the list of the guesses of a room, people ascending, None last."""
-        return list(self._guesses[room])
-
     def first_amiss(self):
         """Returns the first person whose room has it not among its guesses, None if there is none."""
         for person, own, showing in zip(self._names, self._own, self._shows):
@@ -101,7 +97,7 @@ class Fillings:
         return None
 
     def many(self, can, rooms):
-        """Returns how many fillings there are of what can be shown, all other rooms being fixed."""
+        """Returns in how many ways rooms of one lot show what can be shown in fillings."""
         if not self.fits(can):
             return 0
         if not rooms:
@@ -184,31 +180,23 @@ def count_fillings(house, placing, guesses):
         return 0
     if len(placing) == 1 and ring_of_doors(house) is None:
         person = min(placing)
-        many, _ = many_behind(house, told, person, placing[person], None)
-        return many
+        return many_behind(house, told, person, placing[person], None)
     fillings = Fillings(house, placing, told)
-    shown = fillings.fullest()
     many = 1
     # Rooms of unlike lots do not bear on one another.
     for _, rooms in fillings.lots():
-        can = fillings.all_open()
-        for room in house.rooms():
-            if room not in rooms:
-                can = fillings.fixed(can, room, shown[room])
-        many *= fillings.many(can, [room for room in rooms if len(told[room]) > 1])
+        many *= fillings.many(fillings.all_open(), [room for room in rooms if len(told[room]) > 1])
     return many
 
 
 def many_behind(house, guesses, person, room, ahead):
-    """Returns how many ways a room shows one person, by what lies further on, and whether nobody can be shown there.
+    """Returns how many ways a room shows one person, by what lies further on: guesses are narrowed.
 
-    A room further on that shows nobody has nobody shown behind it.
+    So a room further on that may show nobody has nobody shown behind it then, which is one way.
     """
     many = 1
-    blank = None in guesses[room]
     for further in beside(house, room):
         if further != ahead:
-            inner, inner_blank = many_behind(house, guesses, person, further, room)
-            many *= inner + (1 if inner_blank else 0)
-            blank = blank and inner_blank
-    return many if person in guesses[room] else 0, blank
+            shown = many_behind(house, guesses, person, further, room) if person in guesses[further] else 0
+            many *= shown + (1 if None in guesses[further] else 0)
+    return many

@@ -533,3 +533,38 @@ def drawn_house(size, many, chance):
     doors = [(rooms[chance.randrange(k)], rooms[k]) for k in range(1, size)]
     pairs = [pair for pair in combinations(rooms, 2) if pair not in doors]
     return rooms, doors + chance.sample(pairs, many - len(doors))
+
+
+def walked_costs(rooms, doors, people, cost_of):
+    """The dict from the pairs (stands, last faces), rows of rooms and of faces, to the least costs of walks with them.
+
+    It goes through all walks of just these people who stand apart at last. cost_of tells what a step of a person
+    costs, 0 or 1, behind one of another person, or of none.
+    """
+    first = [(where, (None,) * len(rooms), None) for where in product(rooms, repeat=len(people))]
+    costs = {}
+    edges = [first, []]
+    cost = 0
+    while edges[0]:
+        further = []
+        queue = edges.pop(0)
+        while queue:
+            state = queue.pop()
+            if state in costs:
+                continue
+            costs[state] = cost
+            where, out, ahead = state
+            for index, person in enumerate(people):
+                at = rooms.index(where[index])
+                left = out[:at] + (person,) + out[at + 1:]
+                for room in near(doors, where[index]):
+                    now = (where[:index] + (room,) + where[index + 1:], left, person)
+                    (further if cost_of(ahead, person) else queue).append(now)
+        edges.insert(0, further)
+        cost += 1
+    told = {}
+    for (where, out, _), many in costs.items():
+        if len(set(where)) == len(where):
+            last = tuple(people[where.index(room)] if room in where else face for room, face in zip(rooms, out))
+            told[where, last] = min(many, told.get((where, last), many))
+    return told

@@ -73,7 +73,29 @@ FUNCTIONS = {
                    " ahead_chance(house,placing,faces,room,other) mean_place(house,placing,faces,room)",
     "dues": "order_by(house,placing,faces,dues) due_paper(house,placing,faces,dues)",
     "takings": "taken_by(house,placing,faces,row) first_left(house,placing,faces,row)",
+    "turns": "turns_of(house,start,steps) fewest_turns(house,placing,faces) walk_in_turns(house,placing,faces)"
+             " first_row(house,placing,faces)",
+    "fewsteps": "fewest_steps(house,placing,faces) short_walk(house,placing,faces) spans_wanted(house,placing,faces)",
+    "alone": "steps_alone(house,last) steps_through(house,first,last) count_through(house,first,last)"
+             " count_alone(house,last)",
+    "alonenumbers": "through_at(house,first,last,number) through_number(house,thing)",
+    "towers": "whole_house(tower) floor_of(tower,room)",
+    "towerwalks": "is_tower_walk(tower,start,steps) tower_stands(tower,start,steps) tower_faces(tower,start,steps)",
+    "towerrule": "tower_taken(tower,placing,faces) floors_at_last(tower,placing,faces)"
+                 " tower_walk(tower,placing,faces) tower_why(tower,placing,faces)"
+                 " is_tower_why(tower,placing,faces,thing)",
+    "chutes": "tower_begins(tower,placing,faces) needless_chutes(tower,placing,faces)"
+              " sure_floors(tower,placing,faces,person)",
+    "pieces": "outside_names(piece) is_given(piece,thing) seen_at(piece,given) is_whole(piece,given)"
+              " never_whole(piece)",
 }
+
+# Classes: where they stand, their parameters, and their methods.
+CLASSES = [
+    ("houses", "House", "rooms doors", "rooms doors __len__ __eq__"),
+    ("towers", "Tower", "floors landings chutes", "floors landings chutes __eq__"),
+    ("pieces", "Piece", "house gates placing faces", "house gates placing faces __eq__"),
+]
 
 
 def listed(text):
@@ -121,11 +143,14 @@ class TestInterface(unittest.TestCase):
                     self.assertEqual(function.__module__, "lastfaces." + module)
                     self.assertEqual(list(inspect.signature(function).parameters), params)
 
-    def test_house(self):
-        house = importlib.import_module("lastfaces.houses").House
-        self.assertEqual(list(inspect.signature(house).parameters), ["rooms", "doors"])
-        for name in ["rooms", "doors", "__len__", "__eq__"]:
-            self.assertIn(name, vars(house))
+    def test_classes(self):
+        for module, name, params, methods in CLASSES:
+            found = vars(importlib.import_module("lastfaces." + module))[name]
+            self.assertTrue(inspect.isclass(found))
+            self.assertEqual(found.__module__, "lastfaces." + module)
+            self.assertEqual(list(inspect.signature(found).parameters), params.split())
+            for method in methods.split():
+                self.assertIn(method, vars(found))
 
 
 if __name__ == "__main__":

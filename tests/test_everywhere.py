@@ -1,16 +1,21 @@
-"""Points [2] to [6] of all functions of sections 3 to 8: what is told is new, what was passed is unchanged, lists and
+"""Points [2] to [6] of all functions of sections 3 to 11: what is told is new, what was passed is unchanged, lists and
 tuples stand for one another, and nothing is kept from one call to the next."""
 
 import copy
 import unittest
 
 import plain
+from plain import other_order
 from lastfaces.aheads import ahead_pairs, always_ahead, ending_rooms, leading_rooms, places_of
+from lastfaces.alone import count_alone, count_through, steps_alone, steps_through
+from lastfaces.alonenumbers import through_at, through_number
 from lastfaces.bothmaps import begin_rooms, both_fault, both_walk, seen_parts, together_fault, together_walk
 from lastfaces.builtwalks import walk_fault, walk_for
+from lastfaces.chutes import needless_chutes, sure_floors, tower_begins
 from lastfaces.dues import due_paper, order_by
 from lastfaces.enough import fewest_told, follows, needless, tells_enough
 from lastfaces.exchanges import apart, order_row
+from lastfaces.fewsteps import fewest_steps, short_walk, spans_wanted
 from lastfaces.fields import fields, joined_fields
 from lastfaces.fillings import could_show, count_fillings, filling, filling_paper, fullest, last_rooms, most_seen
 from lastfaces.fillings import narrowed, sure_faces
@@ -25,9 +30,14 @@ from lastfaces.lotsbyrows import can_take, lots_behind, row_fault
 from lastfaces.maps import is_map, is_placing, rooms_of, seen_rooms, shown
 from lastfaces.ordercounts import ahead_chance, count_orders, mean_place, next_order, order_number, order_numbered
 from lastfaces.orders import is_order, left_rooms, order_of, walk_in_order
+from lastfaces.pieces import Piece, is_given, is_whole, never_whole, outside_names, seen_at
 from lastfaces.takings import first_left, taken_by
 from lastfaces.therule import goes_with, is_why, last_lots, left_out, round_of, why_not
 from lastfaces.toldrooms import best_told, fewest_places, left_mean, stand_chances
+from lastfaces.towerrule import floors_at_last, is_tower_why, tower_taken, tower_walk, tower_why
+from lastfaces.towers import Tower, floor_of, whole_house
+from lastfaces.towerwalks import is_tower_walk, tower_faces, tower_stands
+from lastfaces.turns import fewest_turns, first_row, turns_of, walk_in_turns
 from lastfaces.walks import first_faces, is_walk, last_faces, stands, turned
 from lastfaces.wants import ring_of_doors, ring_of_wants, wants
 from lastfaces.ways import parts, round_about, steps_between, way
@@ -36,6 +46,7 @@ from lastfaces.wishes import is_wish_paper, order_with, wish_paper
 ROOMS = ["f", "d", "b", "a", "c", "e"]
 ROW = [("a", "b"), ("c", "b"), ("c", "d"), ("f", "e")]
 RING = ROW + [("a", "d")]
+TREE = ROW + [("e", "a")]
 NONE = dict.fromkeys(ROOMS)
 ENDS = {"y": "d", "x": "a"}
 STUCK = {**NONE, "a": "x", "b": "y", "c": "x", "d": "y"}
@@ -148,10 +159,71 @@ CALLS = [
     (mean_place, ENDS, GOES, "c"),
     (taken_by, ENDS, STUCK, ["y", "x"]),
     (first_left, ENDS, STUCK, ["y", "x"]),
+    (turns_of, *WALK),
+    (fewest_turns, ENDS, GOES),
+    (walk_in_turns, ENDS, GOES),
+    (first_row, ENDS, GOES),
+    (fewest_steps, ENDS, GOES),
+    (short_walk, ENDS, GOES),
 ]
 WITHOUT_RINGS = [(wants, ENDS, STUCK), (ring_of_wants, ENDS, STUCK), (order_by, {"x": "b"}, ALL_X, {"d": 3, "a": 1}),
-                 (due_paper, {"x": "b"}, ALL_X, {"d": 2, "a": 1}), (ahead_pairs, {"x": "b"}, ALL_X)]
-EACH = [(RING, *case) for case in CALLS] + [(ROW, *case) for case in WITHOUT_RINGS]
+                 (due_paper, {"x": "b"}, ALL_X, {"d": 2, "a": 1}), (ahead_pairs, {"x": "b"}, ALL_X),
+                 (spans_wanted, {"x": "b"}, ALL_X)]
+OF_TREES = [(steps_alone, "b"), (steps_through, "b", "f"), (count_through, "a", "a"), (count_alone, "b"),
+            (through_at, "a", "a", 1), (through_number, ["a", "e", "f", "e", "a", "b", "c", "d"])]
+WITHIN = {"y": "c", "x": "a"}
+UP = {"f": "x", "e": None, "d": "y", "c": "y", "b": "x", "a": "x"}
+NOT_UP = {**UP, "b": "y"}
+DOWN = ({"y": "d", "x": "f"}, [("x", "c"), ("y", "c"), ("x", "b"), ("x", "a")])
+OF_TOWERS = [
+    (whole_house,),
+    (floor_of, "d"),
+    (is_tower_walk, *DOWN),
+    (tower_stands, *DOWN),
+    (tower_faces, *DOWN),
+    (tower_taken, WITHIN, UP),
+    (floors_at_last, WITHIN, UP),
+    (tower_walk, WITHIN, UP),
+    (tower_why, WITHIN, NOT_UP),
+    (is_tower_why, WITHIN, NOT_UP, ("floors", ["f", "d", "c", "a"], {"y": 1, "x": 2})),
+    (tower_begins, WITHIN, UP),
+    (needless_chutes, WITHIN, UP),
+    (sure_floors, WITHIN, UP, "x"),
+]
+OF_PIECES = [(outside_names,), (is_given, {"d": ["y", "x"], "a": ["x", "y"]}), (seen_at, {"d": ["y", "x"]}),
+             (is_whole, {"d": ["y", "x"], "a": ["x", "y"]}), (never_whole,)]
+
+
+def house_of(doors):
+    """What makes a house, or an equal one of other lists."""
+    def make(is_other=False):
+        if is_other:
+            return House(tuple(sorted(ROOMS)), [list(door[::-1]) for door in doors[::-1]])
+        return House(ROOMS, doors)
+    return make
+
+
+def a_tower(is_other=False):
+    """A tower of two rooms on each floor, or an equal one of other lists."""
+    floors = [House(rooms, [rooms]) for rooms in [("b", "a"), ("c", "d"), ("f", "e")]]
+    chutes = [(2, "c"), (1, "b"), (1, "a"), (2, "a")]
+    if is_other:
+        return Tower(tuple(floors), ("a", "c", "f"), [list(chute) for chute in chutes[::-1]])
+    return Tower(floors, ["a", "c", "f"], chutes)
+
+
+def a_piece(is_other=False):
+    """A piece with three gates, or an equal one of other lists."""
+    placing, faces = {"q": "c", "p": "b"}, {**NONE, "d": "y", "c": "q", "b": "p", "a": "x"}
+    if is_other:
+        return Piece(house_of(ROW)(True), ("d", "f", "a"), other_order(placing), other_order(faces))
+    return Piece(house_of(ROW)(), ["a", "d", "f"], placing, faces)
+
+
+a_ring, a_row, a_tree = house_of(RING), house_of(ROW), house_of(TREE)
+EACH = [(a_ring, *case) for case in CALLS] + [(a_row, *case) for case in WITHOUT_RINGS]
+EACH += [(a_tree, *case) for case in OF_TREES] + [(a_tower, *case) for case in OF_TOWERS]
+EACH += [(a_piece, *case) for case in OF_PIECES]
 
 # Pairs of rows that a function is asked in turns.
 TURNS = [
@@ -213,6 +285,30 @@ TURNS = [
     (mean_place, ({"x": "b"}, ALL_X, "d"), ({"x": "c"}, ALL_X, "d")),
     (taken_by, (ENDS, STUCK, ["y", "x"]), (ENDS, GOES, ["x", "y", "x"])),
     (first_left, (ENDS, GOES, ["x"]), (ENDS, GOES, ["y"])),
+    (turns_of, WALK, (WALK[0], WALK[1][:2])),
+    (fewest_turns, (ENDS, GOES), ({"x": "a"}, ALL_X)),
+    (walk_in_turns, (ENDS, GOES), (ENDS, OTHER)),
+    (first_row, (ENDS, GOES), (ENDS, OTHER)),
+    (fewest_steps, (ENDS, GOES), (ENDS, {**GOES, "b": None})),
+    (short_walk, (ENDS, GOES), (ENDS, OTHER)),
+]
+OTHER_UP = {**UP, "f": "y", "e": "x"}
+TURNS = [(a_ring, *case) for case in TURNS] + [
+    (a_tree, through_at, ("a", "a", 1), ("a", "b", 0)),
+    (a_tree, through_number, (list("abcdcbaefea"),), (list("aefeabcdcba"),)),
+    (a_tower, is_tower_walk, DOWN, (DOWN[0], [("x", "a"), ("x", "c")])),
+    (a_tower, tower_stands, DOWN, (DOWN[0], DOWN[1][:1])),
+    (a_tower, tower_faces, DOWN, (DOWN[0], DOWN[1][:3])),
+    (a_tower, tower_taken, (WITHIN, UP), (WITHIN, NOT_UP)),
+    (a_tower, floors_at_last, (WITHIN, UP), (WITHIN, {**UP, "f": None})),
+    (a_tower, tower_walk, (WITHIN, UP), (WITHIN, OTHER_UP)),
+    (a_tower, tower_why, (WITHIN, UP), (WITHIN, NOT_UP)),
+    (a_tower, tower_begins, (WITHIN, UP), (WITHIN, OTHER_UP)),
+    (a_tower, needless_chutes, (WITHIN, UP), (WITHIN, NOT_UP)),
+    (a_tower, sure_floors, (WITHIN, UP, "x"), (WITHIN, UP, "y")),
+    (a_piece, is_given, ({"a": ["x"]},), ({"a": ["x", "x"]},)),
+    (a_piece, seen_at, ({"a": ["x"]},), ({"a": ["y"], "d": ["y"]},)),
+    (a_piece, is_whole, ({"a": ["x", "y"]},), ({"a": ["x"]},)),
 ]
 
 
@@ -251,26 +347,27 @@ def change(one, other):
 
 class TestEverywhere(plain.Checks):
     def test_told_and_passed(self):
-        for doors, call, *args in EACH:
+        for make, call, *args in EACH:
             with self.subTest(call.__name__):
-                house = House(ROOMS, doors)
+                subject = make()
                 passed = copy.deepcopy(args)
-                told = call(house, *passed)
+                told = call(subject, *passed)
                 self.ascends(told)
                 self.assertEqual(ordered(passed), ordered(args))
                 kept = copy.deepcopy(told)
                 spoil(told)
                 self.assertEqual(ordered(passed), ordered(args))
-                again = call(house, *passed)
+                again = call(subject, *passed)
                 self.assertEqual(ordered(again), ordered(kept))
-                self.assertEqual(house, House(ROOMS, doors))
+                self.assertEqual(subject, make())
 
     def test_equal_arguments(self):
-        for doors, call, *args in EACH:
+        for make, call, *args in EACH:
             with self.subTest(call.__name__):
-                told = call(House(ROOMS, doors), *args)
+                told = call(make(), *args)
                 lists, tuples = plain.both_kinds(args)
-                again = House(tuple(sorted(ROOMS)), [list(door[::-1]) for door in doors[::-1]])
+                again = make(True)
+                self.assertEqual(again, make())
                 for other in [lists, tuples, [self.turned_dicts(part) for part in args]]:
                     self.assertEqual(ordered(call(again, *other)), ordered(told))
 
@@ -280,28 +377,28 @@ class TestEverywhere(plain.Checks):
         return part
 
     def test_in_turns(self):
-        house = House(ROOMS, RING)
-        for call, one, other in TURNS:
+        for make, call, one, other in TURNS:
             with self.subTest(call.__name__):
-                fresh = [call(House(ROOMS, RING), *args) for args in (one, other)]
+                subject = make()
+                fresh = [call(make(), *args) for args in (one, other)]
                 self.assertNotEqual(*fresh)
                 for _ in range(2):
                     for args, wanted in zip((one, other), fresh):
-                        self.assertEqual(ordered(call(house, *args)), ordered(wanted))
+                        self.assertEqual(ordered(call(subject, *args)), ordered(wanted))
 
     def test_changed_in_place(self):
-        house = House(ROOMS, RING)
-        for call, one, other in TURNS:
+        for make, call, one, other in TURNS:
             with self.subTest(call.__name__):
+                subject = make()
                 passed = [copy.deepcopy(part) for part in one]
-                self.assertEqual(call(house, *passed), call(House(ROOMS, RING), *one))
+                self.assertEqual(call(subject, *passed), call(make(), *one))
                 for now in (other, one):
                     for index, part in enumerate(passed):
                         if isinstance(part, (dict, list)):
                             change(part, now[index])
                         else:
                             passed[index] = now[index]
-                    self.assertEqual(call(house, *passed), call(House(ROOMS, RING), *now))
+                    self.assertEqual(call(subject, *passed), call(make(), *now))
 
     def test_turns_between_houses(self):
         more = [(goes_with, ENDS, GOES), (count_last, STUCK, {}), (surely_came, ENDS, GOES, "x"),
@@ -343,6 +440,34 @@ class TestEverywhere(plain.Checks):
         paper = wish_paper(house, ENDS, GOES, [("b", "b")])
         self.assertIs(is_wish_paper(house, ENDS, GOES, [("b", "b")], paper), True)
         self.assertIsNotNone(order_with(house, ENDS, GOES, ahead_pairs(house, ENDS, GOES)))
+
+    def test_what_was_told_of_turns_and_towers_may_be_passed_on(self):
+        house = House(ROOMS, RING)
+        self.assertIsNone(first_left(house, ENDS, GOES, first_row(house, ENDS, GOES)))
+        self.assertEqual(turns_of(house, *walk_in_turns(house, ENDS, GOES)), first_row(house, ENDS, GOES)[::-1])
+        self.assertEqual(last_faces(house, *short_walk(house, ENDS, GOES)), GOES)
+        tree = a_tree()
+        self.assertEqual(through_number(tree, through_at(tree, "a", "a", 1)), 1)
+        tower = a_tower()
+        self.assertEqual(tower_faces(tower, *tower_walk(tower, WITHIN, UP)), UP)
+        paper = tower_why(tower, WITHIN, NOT_UP)
+        self.assertIs(is_tower_why(tower, WITHIN, NOT_UP, paper), True)
+        self.assertEqual(Tower(tower.floors(), tower.landings(), tower.chutes()), tower)
+        piece = a_piece()
+        self.assertEqual(Piece(piece.house(), piece.gates(), piece.placing(), piece.faces()), piece)
+        told = {gate: people for gate, people in seen_at(piece, {"d": ["y"]}).items() if people}
+        self.assertIs(is_given(piece, told), True)
+        self.assertIs(is_map(whole_house(tower), tower_faces(tower, *DOWN)), True)
+
+    def test_turns_between_towers_and_pieces(self):
+        towers = [a_tower(), Tower(a_tower().floors(), ["b", "d", "e"], a_tower().chutes())]
+        pieces = [a_piece(), Piece(house_of(ROW)(), ["a"], {"p": "b"}, {**NONE, "b": "p"})]
+        for subjects, cases in [(towers, OF_TOWERS), (pieces, [(outside_names,), (seen_at, {}), (never_whole,)])]:
+            for call, *args in cases:
+                if call not in (whole_house, tower_why, tower_stands, tower_faces):
+                    told = [call(subject, *args) for subject in subjects]
+                    for _ in range(2):
+                        self.assertEqual([call(subject, *args) for subject in subjects], told)
 
 
 if __name__ == "__main__":

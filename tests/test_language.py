@@ -36,6 +36,9 @@ BARRED_WORDS = r"""\b(typing|typing_extensions|type|enum|Enum|IntEnum|StrEnum|Fl
 
 OPERATORS = ["__init__", "__eq__", "__repr__", "__str__", "__len__", "__enter__", "__exit__", "__call__", "__iter__"]
 
+VIEWS = ["zip", "enumerate", "reversed", "range", "items", "keys", "values"]
+GOING_OVER = ["list", "tuple", "dict", "sorted", "sum", "any", "all", "enumerate", "zip", "min", "max", "reversed"]
+
 LIBRARY = {"heapq", "math", "itertools", "collections"}
 
 
@@ -72,6 +75,11 @@ def local_names(tree):
                 yield node.arg
             if isinstance(node, ast.Name) and isinstance(node.ctx, ast.Store):
                 yield node.id
+
+
+def called(call):
+    """The name of the function or method that is called."""
+    return call.func.id if isinstance(call.func, ast.Name) else getattr(call.func, "attr", None)
 
 
 def imports(tree):
@@ -176,6 +184,23 @@ class TestLanguage(unittest.TestCase):
                     self.assertIn(node.func.attr, METHODS + sorted(own), node.lineno)
                 if isinstance(node, ast.Raise) and node.exc is not None:
                     self.assertIsInstance(node.exc, ast.Call, node.lineno)
+
+    def test_iterated_at_once(self):
+        for name, _, tree in self.each():
+            above = {inner: node for node in ast.walk(tree) for inner in ast.iter_child_nodes(node)}
+            for node in ast.walk(tree):
+                if isinstance(node, ast.Set):
+                    self.assertFalse(any(isinstance(part, ast.Starred) for part in node.elts), (name, node.lineno))
+                if isinstance(node, ast.Call) and called(node) in VIEWS:
+                    holder = above[node]
+                    if isinstance(holder, (ast.For, ast.comprehension)):
+                        self.assertIs(holder.iter, node, (name, node.lineno))
+                    elif isinstance(holder, ast.Call):
+                        self.assertIn(called(holder), GOING_OVER, (name, node.lineno))
+                        self.assertIs(holder.args[0], node, (name, node.lineno))
+                    else:
+                        self.assertIsInstance(holder, ast.Assign, (name, node.lineno))
+                        self.assertEqual(called(node), "range", (name, node.lineno))
 
     def test_one_method_or_attribute_for_a_name(self):
         for _, _, tree in self.each():

@@ -166,6 +166,18 @@ class TestAheads(plain.Checks):
             self.raises((errors.NotLeft, "d"), call, H, P, {**ALL_X, "d": None}, "d")
         self.assertIs(always_ahead(H, P, ALL_X, "b", "b"), False)
 
+    def test_pairs_of_several_lots(self):
+        house = House(list("abcdefg"), [("a", "c"), ("c", "e"), ("b", "d"), ("d", "f")])
+        for placing in [{"x": "a", "y": "b"}, {"x": "b", "y": "a"}]:
+            faces = {"g": None}
+            for person, room in placing.items():
+                faces.update(dict.fromkeys("ace" if room == "a" else "bdf", person))
+            self.assertEqual(ahead_pairs(house, placing, faces), [("c", "e"), ("d", "f")])
+            self.assertEqual(leading_rooms(house, placing, faces), ["c", "d"])
+            self.assertEqual(ending_rooms(house, placing, faces), ["e", "f"])
+            self.assertEqual(places_of(house, placing, faces, "e"), (1, 3))
+            self.assertEqual(count_orders(house, placing, faces), 6)
+
     def test_nobody(self):
         for call, wanted in zip(BY_MAP, [[], [], [], [], 1]):
             self.assertEqual(call(H, {}, dict.fromkeys("abcd")), wanted)
@@ -279,6 +291,19 @@ class TestLimits(plain.Checks):
         self.assertEqual(places_of(row, {"x": rooms[10]}, faces, rooms[0]), (9, 58))
         two = {**faces, **dict.fromkeys(rooms[30:], "y")}
         self.assertEqual(places_of(row, {"x": rooms[0], "y": rooms[59]}, two, rooms[30]), (28, 57))
+
+    def test_places_in_brooms(self):
+        """So many rooms can be taken ahead in so many ways that these cannot be gone through."""
+        rooms = [f"r{k:02d}" for k in range(60)]
+        broom = [(rooms[0], room) for room in rooms[1:31]] + list(zip([rooms[0], *rooms[31:]], rooms[31:]))
+        faces = dict.fromkeys(rooms, "x")
+        for doors in (broom, broom + [(rooms[1], rooms[2])], broom + [(rooms[57], rooms[59])]):
+            far = rooms[58] if (rooms[57], rooms[59]) in doors else rooms[59]
+            told = places_of(House(rooms, doors), {"x": rooms[0]}, faces, far)
+            self.assertEqual(told, (27 if far == rooms[58] else 28, 58))
+        two = {"x": rooms[0], "y": rooms[1]}
+        faces[rooms[40]] = faces[rooms[1]] = "y"
+        self.assertEqual(places_of(House(rooms, broom), two, faces, rooms[59]), (28, 57))
 
     def test_twelve_left_rooms(self):
         for seed, (size, many, people) in enumerate([(13, 13, 1), (13, 20, 1), (14, 30, 2), (15, 20, 3), (13, 78, 1)]):
