@@ -80,51 +80,61 @@ def check_given(piece, given):
 
 
 class Within:
-    """The last lots of a piece, those of the given people among them, with the given rooms around."""
+    """What lots take in within a piece, whatever is given to it; rooms, those around gates too, are told by bits."""
 
-    def __init__(self, piece, given):
+    def __init__(self, piece):
         inner = piece.house()
-        gates = sorted(given)
+        gates = piece.gates()
         self._around = dict(zip(gates, new_names(len(gates), inner.rooms())))
         doors = [(gate, self._around[gate]) for gate in gates]
         self._bits = RoomBits(House(inner.rooms() + list(self._around.values()), inner.doors() + doors))
-        self._names = sorted(set(list(piece.placing()) + [person for people in given.values() for person in people]))
-        lots = [self._lot(piece, given, index) for index in range(len(self._names))]
-        self._last, _ = grown_lots(self._bits, lots, self._bits.bits_of(inner.rooms()))
+        self._free = self._bits.bits_of(inner.rooms())
+        self._own = {person: self._bits.bit(room) for person, room in piece.placing().items()}
+        faces = piece.faces()
+        self._seen_rooms = self._bits.bits_of(seen_rooms(inner, faces))
+        self._shows = {name: self._bits.bits_of(rooms_of(inner, faces, name)) for name in shown(inner, faces)}
 
-    def _lot(self, piece, given, index):
+    def _lot(self, given, index, name):
         """Returns the lot of one person: those with a given room around in common are made one."""
-        name = self._names[index]
         begins = [self._around[gate] for gate in given if name in given[gate]]
-        if name in piece.placing():
-            begins.append(piece.placing()[name])
-        rooms = self._bits.bits_of(begins)
-        shows = self._bits.bits_of(rooms_of(piece.house(), piece.faces(), name))
-        return 1 << index, rooms, self._bits.around(rooms), shows
+        rooms = self._bits.bits_of(begins) | self._own.get(name, 0)
+        return 1 << index, rooms, self._bits.around(rooms), self._shows.get(name, 0)
 
-    def taken(self):
-        """Returns the ascending list of the rooms in lots, those around among them."""
-        return self._bits.rooms_in(sum([rooms for _, rooms, _, _ in self._last]))
+    def lots(self, given):
+        """Returns the list of the last lots, pairs of the ascending list of the people and the number of the rooms."""
+        names = sorted(set(list(self._own) + [person for people in given.values() for person in people]))
+        begun = [self._lot(given, index, name) for index, name in enumerate(names)]
+        last, _ = grown_lots(self._bits, begun, self._free)
+        told = []
+        for people, rooms, _, _ in last:
+            told.append(([name for index, name in enumerate(names) if (people >> index) & 1], rooms))
+        return told
 
-    def seen_from(self, gate):
-        """Returns the ascending list of the people of the lot of the given room around a gate, or else of the gate."""
-        bit = self._bits.bit(self._around.get(gate, gate))
-        members = sum([people for people, rooms, _, _ in self._last if rooms & bit])
-        return [name for index, name in enumerate(self._names) if (members >> index) & 1]
+    def seen_by(self, lots, given):
+        """Returns the dict from all gates to the people of the lot of the given room around, or else of the gate."""
+        told = {}
+        for gate in self._around:
+            bit = self._bits.bit(self._around[gate] if gate in given else gate)
+            told[gate] = [name for people, rooms in lots if rooms & bit for name in people]
+        return told
+
+    def is_whole_by(self, lots):
+        """Tells whether last lots have taken in all rooms that show somebody."""
+        return self._seen_rooms & ~sum([rooms for _, rooms in lots]) == 0
 
 
 def seen_at(piece, given):
     """Returns the dict from all gates to the people who are at last of the lot of the given room around, or there."""
     check_given(piece, given)
-    within = Within(piece, given)
-    return {gate: within.seen_from(gate) for gate in piece.gates()}
+    within = Within(piece)
+    return within.seen_by(within.lots(given), given)
 
 
 def is_whole(piece, given):
     """Tells whether all rooms of a piece that show somebody are taken in."""
     check_given(piece, given)
-    taken = Within(piece, given).taken()
-    return all([room in taken for room in seen_rooms(piece.house(), piece.faces())])
+    within = Within(piece)
+    return within.is_whole_by(within.lots(given))
 
 
 def never_whole(piece):

@@ -24,9 +24,14 @@ def is_name(thing):
     return thing[0] in LETTERS and all([sign in LETTERS or sign in FIGURES for sign in thing])
 
 
+def is_number(thing):
+    """Tells whether a thing is a number, an integer from 0 on."""
+    return isinstance(thing, int) and not isinstance(thing, bool) and thing >= 0
+
+
 def is_number_below(thing, limit):
     """Tells whether a thing is a number, an integer from 0 on, below a limit."""
-    return isinstance(thing, int) and not isinstance(thing, bool) and 0 <= thing < limit
+    return is_number(thing) and thing < limit
 
 
 def fraction(over, under):

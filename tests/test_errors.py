@@ -88,6 +88,19 @@ FUNCTIONS = {
               " sure_floors(tower,placing,faces,person)",
     "pieces": "outside_names(piece) is_given(piece,thing) seen_at(piece,given) is_whole(piece,given)"
               " never_whole(piece)",
+    "parting": "alike_pieces(one,other) parting_house(one,other) is_parting(one,other,thing) set_in(piece,around)",
+    "joinedpieces": "joined_pieces(one,other,doors) handed(one,other,doors,given)",
+    "onegate": "gate_rows(piece) is_rows(thing) told_piece(rows)",
+    "changes": "good_changes(house,placing,faces) harming_changes(house,placing,faces)"
+               " with_person(house,placing,faces,person,room) moved_to(house,placing,faces,person)",
+    "maprows": "row_between(house,placing,one,other) is_row(house,placing,thing)"
+               " fewest_changed(house,placing,faces) nearest_maps(house,placing,faces)",
+    "doorchanges": "needed_doors(house,placing,faces) mending_doors(house,placing,faces)"
+                   " fewest_doors(house,placing,faces) built_doors(house,placing,faces)",
+    "partedhouses": "lets(house,claims) parting_claim(one,other) is_parting_claim(one,other,thing)",
+    "keepers": "told_house(rooms,keeper) beat_asker(rooms,asker,many) fewest_house(rooms,claims)",
+    "looks": "maps_left(house,placing,seen) settled(house,placing,seen) fewest_looks(house,placing,seen)"
+             " best_look(house,placing,seen)",
 }
 
 # Classes: where they stand, their parameters, and their methods.

@@ -1,4 +1,4 @@
-"""Points [2] to [6] of all functions of sections 3 to 11: what is told is new, what was passed is unchanged, lists and
+"""Points [2] to [6] of all functions of sections 3 to 13: what is told is new, what was passed is unchanged, lists and
 tuples stand for one another, and nothing is kept from one call to the next."""
 
 import copy
@@ -11,7 +11,9 @@ from lastfaces.alone import count_alone, count_through, steps_alone, steps_throu
 from lastfaces.alonenumbers import through_at, through_number
 from lastfaces.bothmaps import begin_rooms, both_fault, both_walk, seen_parts, together_fault, together_walk
 from lastfaces.builtwalks import walk_fault, walk_for
+from lastfaces.changes import good_changes, harming_changes, moved_to, with_person
 from lastfaces.chutes import needless_chutes, sure_floors, tower_begins
+from lastfaces.doorchanges import built_doors, fewest_doors, mending_doors, needed_doors
 from lastfaces.dues import due_paper, order_by
 from lastfaces.enough import fewest_told, follows, needless, tells_enough
 from lastfaces.exchanges import apart, order_row
@@ -22,14 +24,21 @@ from lastfaces.fillings import narrowed, sure_faces
 from lastfaces.firstmaps import count_first, first_at, first_number, is_first_map
 from lastfaces.guesses import is_guesses, is_within, wiped
 from lastfaces.houses import House, beside
+from lastfaces.joinedpieces import handed, joined_pieces
+from lastfaces.keepers import beat_asker, fewest_house, told_house
 from lastfaces.keptaway import is_kept, is_kept_paper, kept_paper, kept_walk, sure_people, surely_came
 from lastfaces.lastamong import can_stand, last_among, last_clash, sure_last
 from lastfaces.lastcounts import count_last, drawn_last, last_at, last_number
 from lastfaces.lastrooms import in_two, some_last
+from lastfaces.looks import best_look, fewest_looks, maps_left, settled
 from lastfaces.lotsbyrows import can_take, lots_behind, row_fault
+from lastfaces.maprows import fewest_changed, is_row, nearest_maps, row_between
 from lastfaces.maps import is_map, is_placing, rooms_of, seen_rooms, shown
+from lastfaces.onegate import gate_rows, is_rows, told_piece
 from lastfaces.ordercounts import ahead_chance, count_orders, mean_place, next_order, order_number, order_numbered
 from lastfaces.orders import is_order, left_rooms, order_of, walk_in_order
+from lastfaces.partedhouses import is_parting_claim, lets, parting_claim
+from lastfaces.parting import alike_pieces, is_parting, parting_house, set_in
 from lastfaces.pieces import Piece, is_given, is_whole, never_whole, outside_names, seen_at
 from lastfaces.takings import first_left, taken_by
 from lastfaces.therule import goes_with, is_why, last_lots, left_out, round_of, why_not
@@ -57,6 +66,21 @@ GUESSES = {"f": [None, "x"], "e": [None], "d": ["y"], "c": ["w", None, "y", "x"]
 NO_FILLING = {**GUESSES, "f": ["x", "y"]}
 ALL_X = {**NONE, "a": "x", "b": "x", "c": "x", "d": "x"}
 WALK = ({"y": "c", "x": "a"}, [("x", "b"), ("y", "b"), ("x", "c"), ("x", "d"), ("x", "c")])
+
+CLAIMS = [({"y": "d"}, {**NONE, "d": "y", "c": "y"}), ({"x": "e"}, {**NONE, "e": "x", "a": "x"}), (ENDS, GOES)]
+
+
+def told_of(house, keeper):
+    return told_house(house.rooms(), keeper)
+
+
+def beaten(house, asker, many):
+    return beat_asker(house.rooms()[:4], asker, many)
+
+
+def fewest_of(house, claims):
+    return fewest_house(house.rooms(), claims)
+
 
 # Functions with what they are asked behind a house; the house has a ring but where a function wants none.
 CALLS = [
@@ -165,7 +189,27 @@ CALLS = [
     (first_row, ENDS, GOES),
     (fewest_steps, ENDS, GOES),
     (short_walk, ENDS, GOES),
+    (good_changes, ENDS, GOES),
+    (harming_changes, ENDS, STUCK),
+    (with_person, ENDS, GOES, "w", "f"),
+    (moved_to, ENDS, GOES, "x"),
+    (row_between, ENDS, GOES, {**OTHER, "b": None}),
+    (is_row, ENDS, [GOES, {**GOES, "b": "y"}]),
+    (fewest_changed, ENDS, PARTED),
+    (nearest_maps, ENDS, PARTED),
+    (needed_doors, ENDS, GOES),
+    (mending_doors, ENDS, {**GOES, "f": "x"}),
+    (fewest_doors, ENDS, {**GOES, "f": "x"}),
+    (built_doors, ENDS, {**GOES, "f": "x"}),
+    (lets, CLAIMS),
+    (parting_claim, House(ROOMS, ROW)),
+    (is_parting_claim, House(ROOMS, ROW), ({"x": "a"}, {**NONE, "a": "x", "d": "x"})),
+    (told_of, lambda claim: claim[0]["x"] < "c"),
+    (beaten, lambda answers: [{"x": "a"}, dict.fromkeys("abcd", "x" if len(answers) < 2 else None)], 3),
+    (fewest_of, CLAIMS),
 ]
+OF_LOOKS = [(maps_left, ENDS, {"e": "x", "b": "y"}), (settled, ENDS, {"c": "x", "e": "x"}), (fewest_looks, ENDS, {}),
+            (best_look, ENDS, {"f": "x"})]
 WITHOUT_RINGS = [(wants, ENDS, STUCK), (ring_of_wants, ENDS, STUCK), (order_by, {"x": "b"}, ALL_X, {"d": 3, "a": 1}),
                  (due_paper, {"x": "b"}, ALL_X, {"d": 2, "a": 1}), (ahead_pairs, {"x": "b"}, ALL_X),
                  (spans_wanted, {"x": "b"}, ALL_X)]
@@ -220,10 +264,33 @@ def a_piece(is_other=False):
     return Piece(house_of(ROW)(), ["a", "d", "f"], placing, faces)
 
 
+def a_gate(is_other=False):
+    """A piece with one gate, or an equal one of other lists."""
+    placing, faces = {"q": "c", "p": "b"}, {**NONE, "d": "y", "c": "q", "b": "p", "a": "x"}
+    if is_other:
+        return Piece(house_of(ROW)(True), ("d",), other_order(placing), other_order(faces))
+    return Piece(house_of(ROW)(), ["d"], placing, faces)
+
+
+OTHER_PIECE = Piece(House(["a", "d", "f"], []), ["a", "d", "f"], {"q": "a", "p": "f"}, {"a": "q", "d": "x", "f": "p"})
+FAR_PIECE = Piece(House(["m", "n"], [("m", "n")]), ["n", "m"], {"y": "m", "x": "n"}, {"m": "y", "n": "x"})
+AROUND = (House(["n", "m"], []), {"x": "m"}, {"n": "y", "m": "x"}, [("f", "n"), ("a", "m"), ("d", "m")])
+OF_PIECES += [
+    (alike_pieces, OTHER_PIECE),
+    (parting_house, OTHER_PIECE),
+    (is_parting, OTHER_PIECE, AROUND),
+    (set_in, AROUND),
+    (joined_pieces, FAR_PIECE, [("d", "n"), ("a", "m")]),
+    (handed, FAR_PIECE, [("d", "n")], {"f": ["w"], "a": ["z", "y"]}),
+]
+OF_GATES = [(gate_rows,), (lambda piece, rows: is_rows(rows), {("x",): ["p"], (): []}),
+            (lambda piece, rows: told_piece(rows), {("x",): ["q", "p"][::-1], (): []})]
+
 a_ring, a_row, a_tree = house_of(RING), house_of(ROW), house_of(TREE)
 EACH = [(a_ring, *case) for case in CALLS] + [(a_row, *case) for case in WITHOUT_RINGS]
 EACH += [(a_tree, *case) for case in OF_TREES] + [(a_tower, *case) for case in OF_TOWERS]
-EACH += [(a_piece, *case) for case in OF_PIECES]
+EACH += [(a_piece, *case) for case in OF_PIECES] + [(a_tree, *case) for case in OF_LOOKS]
+EACH += [(a_gate, *case) for case in OF_GATES]
 
 # Pairs of rows that a function is asked in turns.
 TURNS = [
@@ -291,6 +358,19 @@ TURNS = [
     (first_row, (ENDS, GOES), (ENDS, OTHER)),
     (fewest_steps, (ENDS, GOES), (ENDS, {**GOES, "b": None})),
     (short_walk, (ENDS, GOES), (ENDS, OTHER)),
+    (good_changes, (ENDS, GOES), (ENDS, STUCK)),
+    (harming_changes, (ENDS, GOES), (ENDS, PARTED)),
+    (with_person, (ENDS, GOES, "z", "f"), (ENDS, GOES, "w", "e")),
+    (moved_to, (ENDS, GOES, "x"), (ENDS, GOES, "y")),
+    (row_between, (ENDS, GOES, OTHER), (ENDS, OTHER, GOES)),
+    (is_row, (ENDS, [GOES]), (ENDS, [PARTED])),
+    (fewest_changed, (ENDS, PARTED), (ENDS, GOES)),
+    (nearest_maps, (ENDS, PARTED), (ENDS, STUCK)),
+    (needed_doors, (ENDS, GOES), (ENDS, {**GOES, "b": None})),
+    (mending_doors, (ENDS, {**GOES, "f": "x"}), (ENDS, {**GOES, "e": "y"})),
+    (built_doors, (ENDS, {**GOES, "f": "x"}), (ENDS, {**GOES, "e": "y"})),
+    (lets, (CLAIMS,), (CLAIMS[:2],)),
+    (fewest_of, (CLAIMS,), (CLAIMS[2:],)),
 ]
 OTHER_UP = {**UP, "f": "y", "e": "x"}
 TURNS = [(a_ring, *case) for case in TURNS] + [
@@ -309,6 +389,14 @@ TURNS = [(a_ring, *case) for case in TURNS] + [
     (a_piece, is_given, ({"a": ["x"]},), ({"a": ["x", "x"]},)),
     (a_piece, seen_at, ({"a": ["x"]},), ({"a": ["y"], "d": ["y"]},)),
     (a_piece, is_whole, ({"a": ["x", "y"]},), ({"a": ["x"]},)),
+    (a_tree, maps_left, (ENDS, {"b": "x"}), (ENDS, {"b": "y"})),
+    (a_tree, settled, (ENDS, {"b": "x"}), (ENDS, {"b": "y"})),
+    (a_tree, fewest_looks, (ENDS, {}), (ENDS, {"b": "y", "e": "x"})),
+    (a_tree, best_look, (ENDS, {}), (ENDS, {"b": "y", "e": "x"})),
+    (a_piece, alike_pieces, (a_piece(),), (OTHER_PIECE,)),
+    (a_piece, parting_house, (a_piece(),), (OTHER_PIECE,)),
+    (a_piece, handed, (FAR_PIECE, [("d", "n")], {}), (FAR_PIECE, [("d", "n")], {"f": ["w"]})),
+    (a_piece, joined_pieces, (FAR_PIECE, [("d", "n")]), (FAR_PIECE, [("d", "m")])),
 ]
 
 
@@ -458,6 +546,22 @@ class TestEverywhere(plain.Checks):
         told = {gate: people for gate, people in seen_at(piece, {"d": ["y"]}).items() if people}
         self.assertIs(is_given(piece, told), True)
         self.assertIs(is_map(whole_house(tower), tower_faces(tower, *DOWN)), True)
+
+    def test_what_was_told_of_pieces_and_houses_may_be_passed_on(self):
+        piece, house = a_piece(), house_of(RING)()
+        self.assertIs(is_parting(piece, OTHER_PIECE, parting_house(piece, OTHER_PIECE)), True)
+        self.assertIs(is_placing(*set_in(piece, parting_house(piece, OTHER_PIECE))[:2]), True)
+        joined = joined_pieces(piece, FAR_PIECE, [("d", "n")])
+        given = {gate: people for gate, people in seen_at(joined, {}).items() if people}
+        one, other = handed(piece, FAR_PIECE, [("d", "n")], given)
+        self.assertEqual((is_given(piece, one), is_given(FAR_PIECE, other)), (True, True))
+        self.assertEqual(gate_rows(told_piece(gate_rows(a_gate()))), gate_rows(a_gate()))
+        self.assertIs(is_row(house, ENDS, row_between(house, ENDS, GOES, OTHER)), True)
+        claim = parting_claim(house, House(ROOMS, ROW))
+        self.assertEqual(lets(house, [claim]), [True])
+        answers, one, other = beat_asker(ROOMS[:4], lambda told: ({"a": "d"}, dict.fromkeys(ROOMS[:4], "a")), 4)
+        self.assertEqual(lets(one, [told for told, _ in answers]), [truth for _, truth in answers])
+        self.assertEqual(fewest_looks(a_tree(), ENDS, settled(a_tree(), ENDS, {})), fewest_looks(a_tree(), ENDS, {}))
 
     def test_turns_between_towers_and_pieces(self):
         towers = [a_tower(), Tower(a_tower().floors(), ["b", "d", "e"], a_tower().chutes())]

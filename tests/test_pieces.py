@@ -5,6 +5,7 @@ import random
 import unittest
 
 import plain
+from plainpieces import all_given, drawn_pieces, plain_seen, plain_within
 from lastfaces import errors
 from lastfaces.houses import House
 from lastfaces.pieces import Piece, is_given, is_whole, never_whole, outside_names, seen_at
@@ -16,74 +17,6 @@ ROW = House(["a", "b", "c", "d"], [("a", "b"), ("b", "c"), ("c", "d")])
 FACES = {"a": "x", "b": "p", "c": "q", "d": "y"}
 STOOD = {"q": "c", "p": "b"}
 THREE = Piece(ROW, ["d", "a", "b"], STOOD, FACES)
-
-
-def plain_within(rooms, doors, gates, placing, faces, given):
-    """The last lots, as pairs (people, rooms) of sets, a room around told as the pair ("around", gate).
-
-    Again and again, as long as can be, two lots are made one, or one takes a room.
-    """
-    lots = [({person}, {room}) for person, room in placing.items()]
-    lots += [(set(given[gate]), {("around", gate)}) for gate in given]
-    every = list(doors) + [(gate, ("around", gate)) for gate in given]
-    while True:
-        done = None
-        for one, other in itertools.combinations(lots, 2):
-            if one[0] & other[0] or any(room in other[1] for near in one[1] for room in plain.near(every, near)):
-                done = [lot for lot in lots if lot not in (one, other)] + [(one[0] | other[0], one[1] | other[1])]
-        taken = {room for lot in lots for room in lot[1]}
-        for lot in lots:
-            around = {room for near in lot[1] for room in plain.near(every, near)} - taken
-            open_rooms = [room for room in around if faces.get(room) in lot[0]]
-            if open_rooms and done is None:
-                done = [other for other in lots if other is not lot] + [(lot[0], lot[1] | {min(open_rooms)})]
-        if done is None:
-            return lots
-        lots = done
-
-
-def plain_seen(gates, lots, given):
-    told = {}
-    for gate in sorted(gates):
-        asked = ("around", gate) if gate in given else gate
-        told[gate] = sorted(person for people, rooms in lots if asked in rooms for person in people)
-    return told
-
-
-def shares(names):
-    """All lists of lists that share out some of the names, none empty."""
-    if not names:
-        return [[]]
-    told = []
-    for some in shares(names[1:]):
-        told.append(some)
-        told.append([[names[0]]] + some)
-        told += [some[:at] + [[names[0]] + some[at]] + some[at + 1:] for at in range(len(some))]
-    return told
-
-
-def all_given(gates, names):
-    """All that can be given that names some of these."""
-    told = []
-    for lists in shares(names):
-        for chosen in itertools.product([None, *range(len(lists))], repeat=len(gates)):
-            if {pick for pick in chosen if pick is not None} == set(range(len(lists))):
-                told.append({gate: lists[pick] for gate, pick in zip(gates, chosen) if pick is not None})
-    return told
-
-
-def drawn_pieces(many, seed):
-    """Drawn pieces of few rooms, as (rooms, doors, gates, placing, faces)."""
-    chance = random.Random(seed)
-    for _ in range(many):
-        size = chance.randint(1, 5)
-        rooms = plain.NAMES[:size]
-        pairs = list(itertools.combinations(rooms, 2))
-        doors = chance.sample(pairs, chance.randint(0, min(len(pairs), size + 1)))
-        placing = dict(zip(["q", "p"], chance.sample(rooms, min(size, chance.randint(0, 2)))))
-        faces = {room: chance.choice([None, "x", "x", "y", "p", "q", "x"]) for room in rooms}
-        faces.update({room: person for person, room in placing.items()})
-        yield rooms, doors, chance.sample(rooms, min(size, chance.choice([0, 1, 1, 2, 2, 3]))), placing, faces
 
 
 class TestExample(plain.Checks):
