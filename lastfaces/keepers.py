@@ -12,7 +12,8 @@ from lastfaces.things import is_number
 
 def all_pairs(rooms):
     """Returns the ascending list of the pairs (one, other) of rooms, one ahead of other."""
-    return list(combinations(sorted(rooms), 2))
+    ascending = sorted(rooms)
+    return list(combinations(ascending, 2))
 
 
 def told_house(rooms, keeper):

@@ -101,6 +101,23 @@ FUNCTIONS = {
     "keepers": "told_house(rooms,keeper) beat_asker(rooms,asker,many) fewest_house(rooms,claims)",
     "looks": "maps_left(house,placing,seen) settled(house,placing,seen) fewest_looks(house,placing,seen)"
              " best_look(house,placing,seen)",
+    "lookers": "run_looker(house,placing,faces,looker) beat_looker(house,placing,seen,looker,many)",
+    "mapcounts": "count_maps(house,placing) maps_by_seen(house,placing) shown_chances(house,placing,room)"
+                 " mean_rooms(house,placing) one_lot_chance(house,placing) map_numbered(house,placing,number)"
+                 " map_number(house,placing,faces)",
+    "walkcounts": "count_walks(house,start,many) count_walks_to(house,start,many,placing)"
+                  " count_walks_with(house,start,many,placing,faces)"
+                  " count_first_with(house,start,many,placing,faces) cover_counts(house,room,many)",
+    "walkchances": "never_chance(house,start,many,room) mean_seen(house,start,many)"
+                   " face_chances(house,start,many,room) left_chances(house,start,many,room)",
+    "inntexts": "write_inn(inn) read_inn(text)",
+    "shypeople": "shy_walk(house,placing,faces,shy) shy_why(house,placing,faces,shy)"
+                 " is_shy_why(house,placing,faces,shy,thing)",
+    "mustrooms": "must_rooms(house,placing,faces,person) could_rooms(house,placing,faces,person)"
+                 " came_to(house,placing,faces) needed_people(house,placing,faces,room)",
+    "joinings": "joined_at(house,placing,faces,one,other) joinings(house,placing,faces)",
+    "awayclaims": "claims_can_be(house,placing,faces,claims) claims_clash(house,placing,faces,claims)"
+                  " most_claims(house,placing,faces,claims)",
 }
 
 # Classes: where they stand, their parameters, and their methods.
@@ -108,6 +125,8 @@ CLASSES = [
     ("houses", "House", "rooms doors", "rooms doors __len__ __eq__"),
     ("towers", "Tower", "floors landings chutes", "floors landings chutes __eq__"),
     ("pieces", "Piece", "house gates placing faces", "house gates placing faces __eq__"),
+    ("inns", "Inn", "room", "now where faces watched do is_question answer would could_show mending_rooms count undo"
+                            " again deeds at copy trial __eq__"),
 ]
 
 

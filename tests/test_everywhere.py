@@ -1,14 +1,18 @@
-"""Points [2] to [6] of all functions of sections 3 to 13: what is told is new, what was passed is unchanged, lists and
+"""Points [2] to [6] of all functions: what is told is new, what was passed is unchanged, lists and
 tuples stand for one another, and nothing is kept from one call to the next."""
 
 import copy
+import importlib
+import inspect
 import unittest
 
 import plain
+import test_errors
 from plain import other_order
 from lastfaces.aheads import ahead_pairs, always_ahead, ending_rooms, leading_rooms, places_of
 from lastfaces.alone import count_alone, count_through, steps_alone, steps_through
 from lastfaces.alonenumbers import through_at, through_number
+from lastfaces.awayclaims import claims_can_be, claims_clash, most_claims
 from lastfaces.bothmaps import begin_rooms, both_fault, both_walk, seen_parts, together_fault, together_walk
 from lastfaces.builtwalks import walk_fault, walk_for
 from lastfaces.changes import good_changes, harming_changes, moved_to, with_person
@@ -24,22 +28,31 @@ from lastfaces.fillings import narrowed, sure_faces
 from lastfaces.firstmaps import count_first, first_at, first_number, is_first_map
 from lastfaces.guesses import is_guesses, is_within, wiped
 from lastfaces.houses import House, beside
+from lastfaces.inns import Inn
+from lastfaces.inntexts import read_inn, write_inn
 from lastfaces.joinedpieces import handed, joined_pieces
+from lastfaces.joinings import joined_at, joinings
 from lastfaces.keepers import beat_asker, fewest_house, told_house
 from lastfaces.keptaway import is_kept, is_kept_paper, kept_paper, kept_walk, sure_people, surely_came
 from lastfaces.lastamong import can_stand, last_among, last_clash, sure_last
 from lastfaces.lastcounts import count_last, drawn_last, last_at, last_number
 from lastfaces.lastrooms import in_two, some_last
+from lastfaces.lookers import beat_looker, run_looker
 from lastfaces.looks import best_look, fewest_looks, maps_left, settled
 from lastfaces.lotsbyrows import can_take, lots_behind, row_fault
+from lastfaces.mapcounts import count_maps, map_number, map_numbered, maps_by_seen, mean_rooms, one_lot_chance
+from lastfaces.mapcounts import shown_chances
 from lastfaces.maprows import fewest_changed, is_row, nearest_maps, row_between
 from lastfaces.maps import is_map, is_placing, rooms_of, seen_rooms, shown
+from lastfaces.mustrooms import came_to, could_rooms, must_rooms, needed_people
 from lastfaces.onegate import gate_rows, is_rows, told_piece
 from lastfaces.ordercounts import ahead_chance, count_orders, mean_place, next_order, order_number, order_numbered
 from lastfaces.orders import is_order, left_rooms, order_of, walk_in_order
 from lastfaces.partedhouses import is_parting_claim, lets, parting_claim
+from lastfaces.otherhouses import built_on, joined_by, part_of, renamed, without_door
 from lastfaces.parting import alike_pieces, is_parting, parting_house, set_in
 from lastfaces.pieces import Piece, is_given, is_whole, never_whole, outside_names, seen_at
+from lastfaces.shypeople import is_shy_why, shy_walk, shy_why
 from lastfaces.takings import first_left, taken_by
 from lastfaces.therule import goes_with, is_why, last_lots, left_out, round_of, why_not
 from lastfaces.toldrooms import best_told, fewest_places, left_mean, stand_chances
@@ -47,6 +60,8 @@ from lastfaces.towerrule import floors_at_last, is_tower_why, tower_taken, tower
 from lastfaces.towers import Tower, floor_of, whole_house
 from lastfaces.towerwalks import is_tower_walk, tower_faces, tower_stands
 from lastfaces.turns import fewest_turns, first_row, turns_of, walk_in_turns
+from lastfaces.walkchances import face_chances, left_chances, mean_seen, never_chance
+from lastfaces.walkcounts import count_first_with, count_walks, count_walks_to, count_walks_with, cover_counts
 from lastfaces.walks import first_faces, is_walk, last_faces, stands, turned
 from lastfaces.wants import ring_of_doors, ring_of_wants, wants
 from lastfaces.ways import parts, round_about, steps_between, way
@@ -207,7 +222,48 @@ CALLS = [
     (told_of, lambda claim: claim[0]["x"] < "c"),
     (beaten, lambda answers: [{"x": "a"}, dict.fromkeys("abcd", "x" if len(answers) < 2 else None)], 3),
     (fewest_of, CLAIMS),
+    (is_parting_claim, House(ROOMS, ROW), ({"x": "a"}, {**NONE, "a": "x"})),
+    (count_maps, ENDS),
+    (maps_by_seen, ENDS),
+    (shown_chances, ENDS, "b"),
+    (mean_rooms, ENDS),
+    (one_lot_chance, ENDS),
+    (map_numbered, ENDS, 5),
+    (map_number, ENDS, GOES),
+    (count_walks, WALK[0], 4),
+    (count_walks_to, WALK[0], 4, ENDS),
+    (count_walks_with, WALK[0], 5, {"y": "b", "x": "c"}, {**NONE, "a": "x", "b": "y", "c": "x", "d": "x"}),
+    (count_first_with, WALK[0], 5, {"y": "b", "x": "c"}, {**NONE, "a": "x", "b": "x", "c": "y", "d": "x"}),
+    (cover_counts, "b", 4),
+    (never_chance, WALK[0], 3, "d"),
+    (mean_seen, WALK[0], 3),
+    (face_chances, WALK[0], 3, "b"),
+    (left_chances, WALK[0], 3, "b"),
+    (shy_walk, ENDS, GOES, {"y": ["b", "a"], "x": ["d"]}),
+    (shy_why, ENDS, STUCK, {"y": ["c", "a"], "x": ["d"]}),
+    (is_shy_why, ENDS, STUCK, {"y": ["c", "a"], "x": ["d"]}, ("rooms", ["d", "a"])),
+    (must_rooms, ENDS, GOES, "x"),
+    (could_rooms, ENDS, GOES, "x"),
+    (came_to, ENDS, STUCK),
+    (needed_people, ENDS, STUCK, "b"),
+    (part_of, ["d", "b", "a"]),
+    (built_on, "z", ["f", "a"]),
+    (joined_by, House(["n", "m"], [("n", "m")]), [("f", "m"), ("a", "n")]),
+    (renamed, dict(zip(ROOMS, "zyxwvu"))),
+    (without_door, "b", "a"),
+    (joined_at, ENDS, STUCK, "y", "x"),
+    (joinings, ENDS, STUCK),
+    (claims_can_be, ENDS, STUCK, [("x", "d"), ("y", "a")]),
+    (claims_clash, ENDS, STUCK, [("x", "f"), ("x", "d"), ("y", "a"), ("x", "b")]),
+    (most_claims, ENDS, STUCK, [("x", "f"), ("x", "d"), ("y", "a"), ("x", "b")]),
 ]
+
+
+def looks_at_b(seen):
+    return ("look", "b") if "b" not in seen else ["tell", dict(zip("fedcba", [*"xxyyyx"]))]
+
+
+OF_LOOKERS = [(run_looker, ENDS, {**GOES, "f": "x", "e": "x"}, looks_at_b), (beat_looker, ENDS, {"e": "x"}, looks_at_b, 1)]
 OF_LOOKS = [(maps_left, ENDS, {"e": "x", "b": "y"}), (settled, ENDS, {"c": "x", "e": "x"}), (fewest_looks, ENDS, {}),
             (best_look, ENDS, {"f": "x"})]
 WITHOUT_RINGS = [(wants, ENDS, STUCK), (ring_of_wants, ENDS, STUCK), (order_by, {"x": "b"}, ALL_X, {"d": 3, "a": 1}),
@@ -283,14 +339,32 @@ OF_PIECES += [
     (joined_pieces, FAR_PIECE, [("d", "n"), ("a", "m")]),
     (handed, FAR_PIECE, [("d", "n")], {"f": ["w"], "a": ["z", "y"]}),
 ]
+
+
+def an_inn(is_other=False):
+    """An inn in which something was done, and taken back, or an equal one with other deeds."""
+    if is_other:
+        return read_inn(write_inn(an_inn()))
+    inn = Inn("b")
+    for deed in [("build", "a", "b"), ["build", "c", "b"], ("door", "c", "a"), ("come", "y", "a"), ("come", "x", "c"),
+                 ("go", "y", "b"), ["watch", ["can"]], ("hold", ("reach", "x")), ("paint", "a", "x")]:
+        inn.do(deed)
+    inn.undo()
+    return inn
+
+
+OF_INNS = [(write_inn,), (Inn.now,), (Inn.where,), (Inn.faces,), (Inn.watched,), (Inn.is_question, ("seen", "x")),
+           (Inn.answer, ("seen", "y")), (Inn.would, ("paint", "a", "x")), (Inn.could_show, "a"), (Inn.mending_rooms,),
+           (Inn.copy,), (Inn.trial, lambda inn: (inn.do(("paint", "a", "x")), inn.faces(), inn.undo() is None)),
+           (Inn.would, ("watch", ("left",)))]
 OF_GATES = [(gate_rows,), (lambda piece, rows: is_rows(rows), {("x",): ["p"], (): []}),
             (lambda piece, rows: told_piece(rows), {("x",): ["q", "p"][::-1], (): []})]
 
 a_ring, a_row, a_tree = house_of(RING), house_of(ROW), house_of(TREE)
 EACH = [(a_ring, *case) for case in CALLS] + [(a_row, *case) for case in WITHOUT_RINGS]
 EACH += [(a_tree, *case) for case in OF_TREES] + [(a_tower, *case) for case in OF_TOWERS]
-EACH += [(a_piece, *case) for case in OF_PIECES] + [(a_tree, *case) for case in OF_LOOKS]
-EACH += [(a_gate, *case) for case in OF_GATES]
+EACH += [(a_piece, *case) for case in OF_PIECES] + [(a_tree, *case) for case in OF_LOOKS + OF_LOOKERS]
+EACH += [(a_gate, *case) for case in OF_GATES] + [(an_inn, *case) for case in OF_INNS]
 
 # Pairs of rows that a function is asked in turns.
 TURNS = [
@@ -371,6 +445,31 @@ TURNS = [
     (built_doors, (ENDS, {**GOES, "f": "x"}), (ENDS, {**GOES, "e": "y"})),
     (lets, (CLAIMS,), (CLAIMS[:2],)),
     (fewest_of, (CLAIMS,), (CLAIMS[2:],)),
+    (count_maps, (ENDS,), ({"y": "d", "x": "f"},)),
+    (maps_by_seen, (ENDS,), ({"x": "a"},)),
+    (shown_chances, (ENDS, "b"), ({"y": "d", "x": "b"}, "b")),
+    (mean_rooms, (ENDS,), ({"y": "d", "x": "f"},)),
+    (one_lot_chance, (ENDS,), ({"y": "d", "x": "f"},)),
+    (map_numbered, (ENDS, 5), ({"y": "a", "x": "d"}, 5)),
+    (map_number, (ENDS, GOES), (ENDS, OTHER)),
+    (count_walks, (WALK[0], 3), ({"y": "b"}, 3)),
+    (count_walks_to, (WALK[0], 4, ENDS), (WALK[0], 4, {"y": "c", "x": "a"})),
+    (never_chance, (WALK[0], 3, "d"), ({"y": "d", "x": "a"}, 3, "d")),
+    (mean_seen, (WALK[0], 3), ({"y": "a", "x": "a"}, 3)),
+    (face_chances, (WALK[0], 3, "b"), ({"y": "b", "x": "a"}, 3, "b")),
+    (left_chances, (WALK[0], 3, "b"), ({"y": "b", "x": "a"}, 3, "b")),
+    (cover_counts, ("b", 3), ("f", 3)),
+    (shy_walk, (ENDS, GOES, {"x": ["d"]}), (ENDS, GOES, {"x": ["b"]})),
+    (shy_why, (ENDS, STUCK, {"x": ["d"]}), (ENDS, STUCK, {"y": ["a", "c"]})),
+    (must_rooms, (ENDS, GOES, "x"), (ENDS, OTHER, "x")),
+    (could_rooms, (ENDS, GOES, "x"), (ENDS, {**GOES, "b": None}, "x")),
+    (came_to, (ENDS, GOES), ({"x": "b", "y": "c"}, {**STUCK, "a": "y", "b": "x", "c": "y", "d": "x"})),
+    (needed_people, (ENDS, STUCK, "b"), (ENDS, GOES, "b")),
+    (joined_at, (ENDS, STUCK, "x", "y"), ({"x": "a", "y": "c"}, {**NONE, "b": "x"}, "x", "y")),
+    (joinings, (ENDS, STUCK), ({"x": "a", "y": "c"}, {**NONE, "b": "x"})),
+    (claims_can_be, (ENDS, GOES, [("x", "d")]), (ENDS, GOES, [("x", "b")])),
+    (claims_clash, (ENDS, GOES, [("x", "d")]), (ENDS, GOES, [("x", "d"), ("x", "b")])),
+    (most_claims, (ENDS, GOES, [("x", "d")]), (ENDS, GOES, [("x", "d"), ("y", "a")])),
 ]
 OTHER_UP = {**UP, "f": "y", "e": "x"}
 TURNS = [(a_ring, *case) for case in TURNS] + [
@@ -431,6 +530,42 @@ def change(one, other):
                 one[key] = copy.deepcopy(other[key])
     else:
         one[:] = other
+
+
+# Functions that stand behind others in EACH, or are asked of no house, with what they are asked.
+OTHERS = [
+    (told_house, ROOMS, lambda claim: True),
+    (beat_asker, ROOMS[:4], lambda answers: ({"a": "d"}, dict.fromkeys(ROOMS[:4], "a")), 3),
+    (fewest_house, ROOMS, CLAIMS),
+    (is_rows, {(): [], ("x",): ["p"]}),
+    (told_piece, {(): [], ("x",): ["p"]}),
+    (read_inn, "room a\n"),
+    (House, ROOMS, RING),
+    (Tower, a_tower().floors(), ["a", "c", "f"], [(2, "c")]),
+    (Piece, House(ROOMS, ROW), ["a"], ENDS, GOES),
+    (Inn, "a"),
+    (Inn.do, an_inn(), ("build", "z", "a")),
+    (Inn.at, an_inn(), 3),
+]
+
+
+class TestByNames(plain.Checks):
+    def test_by_names(self):
+        for call, *args in [(call, make(), *args) for make, call, *args in EACH] + OTHERS:
+            with self.subTest(call.__name__):
+                names = [name for name in inspect.signature(call).parameters if name != "self"]
+                if len(names) < len(args):
+                    told = getattr(copy.deepcopy(args[0]), call.__name__)(**dict(zip(names, args[1:])))
+                else:
+                    told = call(**dict(zip(reversed(names), reversed(args))))
+                self.assertEqual(told, call(*args))
+
+    def test_each_function_is_called(self):
+        called = {call for _, call, *_ in EACH} | {call for call, *_ in OTHERS}
+        for module, text in test_errors.FUNCTIONS.items():
+            for name, _ in test_errors.listed(text):
+                function = getattr(importlib.import_module("lastfaces." + module), name)
+                self.assertIn(function, called)
 
 
 class TestEverywhere(plain.Checks):

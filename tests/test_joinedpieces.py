@@ -116,7 +116,8 @@ class TestHanded(plain.Checks):
             every = all_given(joined[2], ["w", "x", "p"])
             for given in every if len(every) < 60 else every[::7]:
                 wanted = plain_handed(one, other, doors, given)
-                told = handed(made(one), made(other), doors, {gate: given[gate] for gate in reversed(list(given))})
+                turned = {gate: given[gate][::-1] for gate in reversed(list(given))}
+                told = handed(made(one), made(other), doors, turned)
                 self.assertEqual(told, wanted)
                 self.ascends(told)
                 if not any(person in joined[3] for people in given.values() for person in people):

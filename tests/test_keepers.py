@@ -105,6 +105,8 @@ class TestParted(plain.Checks):
     def test_unlike_rooms(self):
         for call in [parting_claim, lambda one, other: is_parting_claim(one, other, None)]:
             self.raises((errors.UnlikeRooms, "d"), call, H, House(["a", "b", "c"], []))
+            self.raises((errors.UnlikeRooms, "c"), call, House(["a", "b", "d"], []), H)
+            self.raises((errors.UnlikeRooms, "c"), call, House(["a", "b", "d"], []), House(["a", "b", "c"], []))
             self.raises((errors.UnlikeRooms, "aa"), call, House(["aa", "a", "b", "c", "d"], []), H)
             self.raises((errors.UnlikeRooms, "b"), call, H, House(["a", "c", "z"], []))
 
@@ -204,7 +206,7 @@ class TestBeatAsker(plain.Checks):
     def test_drawn(self):
         chance = random.Random(3)
         for rooms in (ROOMS[:2], ROOMS[:3], ROOMS):
-            claims = list(claims_of(rooms, ["x", "y", "z"]))
+            claims = list(claims_of(rooms, ["z", "y", "x"]))
             pairs = len(rooms) * (len(rooms) - 1) // 2
             for _ in range(12):
                 self.judge(rooms, [chance.choice(claims) for _ in range(chance.randrange(pairs))])

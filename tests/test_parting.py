@@ -7,7 +7,7 @@ import unittest
 import plain
 import plainpieces
 from plainpieces import all_given, drawn_pieces, goes_set_in, made, plain_told
-from lastfaces import errors
+from lastfaces import errors, parting
 from lastfaces.houses import House
 from lastfaces.parting import alike_pieces, is_parting, parting_house, set_in
 from lastfaces.pieces import Piece
@@ -64,6 +64,24 @@ def are_alike(one, other, names):
     """By all that could be given that names some of these: whether the same is seen and whole, or both never are."""
     told = [[plain_told(case, given) for given in all_given(case[2], names)] for case in (one, other)]
     return told[0] == told[1] or not any(whole for seen, whole in told[0] + told[1])
+
+
+def given_key(given, names):
+    """What is given, new people being told by no name."""
+    lists = sorted({tuple(sorted(people)) for people in given.values()})
+    return tuple(sorted((tuple(sorted(gate for gate in given if tuple(sorted(given[gate])) == people)),
+                         tuple(name for name in people if name in names)) for people in lists))
+
+
+def larger_piece(chance):
+    """A drawn piece of two gates or three that is whole if some come in."""
+    rooms, doors = plain.drawn_house(chance.randint(5, 8), chance.randint(8, 10), chance)
+    doors = chance.sample(doors, len(doors) - chance.randint(0, 3))
+    gates = chance.sample(rooms, chance.choice([2, 3]))
+    free = [room for room in rooms if room not in gates] + chance.sample(gates, 1)
+    placing = dict(zip(["p", "q"], chance.sample(free, 2)))
+    coming = dict(zip(["x", "y"], [gate for gate in gates if gate not in placing.values()]))
+    return rooms, doors, gates, placing, plain.grown_map(rooms, doors, {**placing, **coming}, chance)
 
 
 class TestAlike(plain.Checks):
@@ -126,6 +144,40 @@ class TestAlike(plain.Checks):
                         if alike:
                             self.assertEqual(*goes)
         self.assertEqual(many, {True: 25, False: 25})
+
+    def test_what_is_given_to_know(self):
+        """Of all that could be given just what differs by more than new people beside others, or by their names."""
+        for gates, names in [([], []), (["a"], ["x"]), (["a", "b"], []), (["a", "b"], ["x", "y"]), (["a", "b", "c"], ["x"])]:
+            told = [given_key(given, names) for given in parting.all_given(gates, names, ["p"])]
+            self.assertEqual(len(told), len(set(told)))
+            new = ["v", "w", "u"][:max(1, len(gates))]
+            self.assertEqual(set(told), {given_key(given, names) for given in all_given(gates, names + new)})
+        for given in parting.all_given(["a", "b", "c"], ["n0", "x"], ["n1"]):
+            self.assertNotIn("n1", [person for people in given.values() for person in people])
+
+    def test_only_new_people_know(self):
+        # p and q are joined by who is shown nowhere, at two gates; the third gate's room is beside them by then.
+        rooms, doors = ["g", "h", "k", "m"], [("h", "k"), ("h", "m")]
+        placing, faces = {"p": "g", "q": "h"}, {"g": "p", "h": "q", "k": "p", "m": None}
+        one = rooms, doors, ["g", "h", "k"], placing, faces
+        other = rooms, doors, ["g", "h", "k"], placing, {**faces, "k": None, "m": "p"}
+        self.assertIs(alike_pieces(made(one), made(other)), False)
+        self.judge(one, other, parting_house(made(one), made(other)))
+
+    def test_larger(self):
+        chance = random.Random(8)
+        found = []
+        for index in range(700):
+            case = larger_piece(chance)
+            other = changed(case, chance)
+            alike = alike_pieces(made(case), made(other))
+            told = parting_house(made(case), made(other))
+            self.assertEqual(told is None, alike)
+            if not alike:
+                self.judge(case, other, told)
+            found.append(alike)
+        self.assertGreater(found.count(True), 80)
+        self.assertGreater(found.count(False), 80)
 
     def test_plain_cases(self):
         self.assertIs(alike_pieces(SMALL, SMALL), True)
