@@ -1,6 +1,6 @@
 """Deeds in an inn: when they can be done, and what is behind them."""
 
-from lastfaces.errors import BadDeed, BadQuestion, InUse, IsDoor, IsShown, IsWatched, LastRoom, NoDoor, NoPerson
+from lastfaces.errors import BadDeed, BadQuestion, InUse, IsDoor, IsShown, IsWatched, LastRoom, NoPerson
 from lastfaces.errors import NotBeside, NotLeaf, NotWatched, Occupied, RoomTaken, SameRoom, ShowsNobody, TakenPerson
 from lastfaces.houses import House, beside, check_room, is_room
 from lastfaces.innstates import State, answer_of, is_question_now
@@ -79,8 +79,6 @@ def rebuilt(state, kind, one, *rest):
         return part_of(house, [room for room in house.rooms() if room != one])
     other = rest[0]
     if kind == "wall":
-        if other not in beside(house, one):
-            raise NoDoor(one, other)
         return without_door(house, one, other)
     if one == other:
         raise SameRoom(one)

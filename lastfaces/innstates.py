@@ -1,6 +1,5 @@
 """States of an inn, and what is asked and answered of them."""
 
-from lastfaces.houses import is_room
 from lastfaces.therule import goes_with, is_placed, last_lots, left_out
 from lastfaces.things import is_list
 
@@ -53,12 +52,12 @@ class State:
 
 def is_question_of(rooms, where, thing):
     """Tells of any object whether it is a question of an inn with some rooms and some people."""
-    if not is_list(thing) or not 1 <= len(thing) <= 2 or not isinstance(thing[0], str):
+    if not is_list(thing) or not 1 <= len(thing) <= 2:
         return False
     if len(thing) == 1:
         return thing[0] in ("alone", "can", "lots", "left")
     if thing[0] == "shows":
-        return isinstance(thing[1], str) and thing[1] in rooms
+        return thing[1] in rooms
     return thing[0] in ("reach", "seen") and is_placed(where, thing[1])
 
 
@@ -86,8 +85,3 @@ def answer_of(state, question):
     if kind == "lots":
         return len(lots)
     return sum([len(rooms) for people, rooms in lots if question[1] in people])
-
-
-def is_open_room(state, thing):
-    """Tells of any object whether it is a room of a state in which nobody is."""
-    return is_room(state.house(), thing) and state.is_free(thing)

@@ -177,7 +177,8 @@ def is_parting(one, other, thing):
     check_pieces(one, other)
     if not is_around(one, thing) or not is_around(other, thing):
         return False
-    return goes_with(*set_in(one, thing)) != goes_with(*set_in(other, thing))
+    whole, other_whole = set_in(one, thing), set_in(other, thing)
+    return goes_with(*whole) != goes_with(*other_whole)
 
 
 def set_in(piece, around):

@@ -31,7 +31,6 @@ def never_chance(house, start, many, room):
 
 def mean_seen(house, start, many):
     """Returns the mean number of rooms in which somebody was."""
-    check_start_and_many(house, start, many)
     walks = all_walks(house, start, many)
     return fraction(sum([walks - never_count(house, start, many, room) for room in house.rooms()]), walks)
 

@@ -185,6 +185,24 @@ class TestLanguage(unittest.TestCase):
                 if isinstance(node, ast.Raise) and node.exc is not None:
                     self.assertIsInstance(node.exc, ast.Call, node.lineno)
 
+    def test_stars_in_calls(self):
+        plainly = (ast.Name, ast.Attribute, ast.Constant, ast.List, ast.Tuple, ast.Dict)
+        for name, _, tree in self.each():
+            for node in ast.walk(tree):
+                if isinstance(node, ast.Call) and any(isinstance(part, ast.Starred) for part in node.args):
+                    self.assertFalse(node.keywords, (name, node.lineno))
+                    starred = False
+                    for part in node.args:
+                        starred = starred or isinstance(part, ast.Starred)
+                        told = part.value if isinstance(part, ast.Starred) else part
+                        self.assertTrue(not starred or isinstance(told, plainly), (name, node.lineno))
+
+    def test_products(self):
+        for name, _, tree in self.each():
+            for node in ast.walk(tree):
+                if isinstance(node, ast.Call) and called(node) in ("combinations", "permutations", "product"):
+                    self.assertTrue(all(isinstance(part, (ast.Name, ast.Constant)) for part in node.args), name)
+
     def test_iterated_at_once(self):
         for name, _, tree in self.each():
             above = {inner: node for node in ast.walk(tree) for inner in ast.iter_child_nodes(node)}

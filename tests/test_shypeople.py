@@ -301,6 +301,10 @@ class TestMust(plain.Checks):
 class TestClaims(plain.Checks):
     def test_wrong(self):
         for call in OF_CLAIMS:
+            for thing in plain.odd_things():
+                if thing != {}:
+                    self.raises((errors.BadPlacing, thing), call, H, thing, thing, None)
+                self.raises((errors.BadMap, thing), call, H, P, thing, None)
             for thing in plain.no_lists():
                 self.raises((errors.BadClaims, 0), call, H, P, STUCK, thing)
             for thing in plain.no_pairs() + [("x", "a"), ("z", "a"), ("a", "x"), ("x", "b", "c"), ("x", "e"), ["y", "b"], ("x",)]:
