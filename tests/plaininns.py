@@ -62,7 +62,9 @@ class Book:
             return thing[0] in ["alone", "can", "lots", "left"]
         if len(thing) != 2 or not isinstance(thing[1], str):
             return False
-        return thing[0] == "shows" and thing[1] in self.rooms or thing[0] in ["reach", "seen"] and thing[1] in self.where
+        if thing[0] == "shows":
+            return thing[1] in self.rooms
+        return thing[0] in ["reach", "seen"] and thing[1] in self.where
 
     def answer(self, question):
         faces = self.faces()

@@ -263,7 +263,8 @@ def looks_at_b(seen):
     return ("look", "b") if "b" not in seen else ["tell", dict(zip("fedcba", [*"xxyyyx"]))]
 
 
-OF_LOOKERS = [(run_looker, ENDS, {**GOES, "f": "x", "e": "x"}, looks_at_b), (beat_looker, ENDS, {"e": "x"}, looks_at_b, 1)]
+OF_LOOKERS = [(run_looker, ENDS, {**GOES, "f": "x", "e": "x"}, looks_at_b),
+              (beat_looker, ENDS, {"e": "x"}, looks_at_b, 1)]
 OF_LOOKS = [(maps_left, ENDS, {"e": "x", "b": "y"}), (settled, ENDS, {"c": "x", "e": "x"}), (fewest_looks, ENDS, {}),
             (best_look, ENDS, {"f": "x"})]
 WITHOUT_RINGS = [(wants, ENDS, STUCK), (ring_of_wants, ENDS, STUCK), (order_by, {"x": "b"}, ALL_X, {"d": 3, "a": 1}),

@@ -105,8 +105,9 @@ class TestBegin(Held):
     def test_told_new(self):
         inn = inn_with(LIVED + [("watch", ("can",))])
         deeds = list(inn.deeds())
-        for told in [inn.where(), inn.faces(), inn.watched(), inn.deeds(), inn.could_show("d"), inn.do(("go", "x", "d"))]:
+        for told in [inn.where(), inn.faces(), inn.watched(), inn.deeds(), inn.could_show("d")]:
             told.clear()
+        inn.do(("go", "x", "d")).clear()
         self.hold_against(inn, "a", deeds + [("go", "x", "d")])
 
     def test_told_as_tuples(self):
@@ -192,14 +193,16 @@ class TestDeeds(Held):
 
     def test_bad_deeds(self):
         inn = inn_with(LIVED)
-        for thing in plain.odd_things() + [("build", "e"), ("build", "e", "a", "b"), ("come",), ("pull", "d", "d"), ("go", 1, "a"),
-                                           ("watch",), ("watch", ("can",), None), ("Build", "e", "a"), ("go", "x", ["d"]),
-                                           (["build"], "e", "a"), ("come", "X", "a"), ("paint", "d", None), "pull",
-                                           {"pull": "d"}, ("wipe", ("a",)), (None, "a"), ("door", "a", ""), ("free",)]:
+        wrong = [("build", "e"), ("build", "e", "a", "b"), ("come",), ("pull", "d", "d"), ("go", 1, "a"), ("watch",),
+                 ("watch", ("can",), None), ("Build", "e", "a"), ("go", "x", ["d"]), (["build"], "e", "a"), ("free",),
+                 ("come", "X", "a"), ("paint", "d", None), "pull", {"pull": "d"}, ("wipe", ("a",)), (None, "a"),
+                 ("door", "a", "")]
+        for thing in plain.odd_things() + wrong:
             for call in (inn.do, inn.would):
                 self.raises((errors.BadDeed, thing), call, thing)
         for thing in plain.odd_things():
-            for deed in [("build", thing, "a"), ["wall", "a", thing], ("paint", thing, "x"), ("come", thing, "a"), ("pull", thing)]:
+            for deed in [("build", thing, "a"), ["wall", "a", thing], ("paint", thing, "x"), ("come", thing, "a"),
+                         ("pull", thing)]:
                 if thing != "nowhere":
                     self.raises((errors.BadDeed, deed), inn.do, deed)
             for kind in ("watch", "hold", "free"):
@@ -285,9 +288,10 @@ class TestQuestions(Held):
         for thing in right:
             self.assertIs(inn.is_question(thing), True)
             self.assertEqual(inn.answer(thing), Book("a", LIVED).answer(tuple(thing)))
-        for thing in plain.odd_things() + [("can", "x"), ("reach",), ("reach", "a"), ("seen", "z"), ("shows", "x"), ("shows",),
-                                           ("shows", ["a"]), ("reach", None), ("seen", 1), (["can"],), "can", {"can": 1},
-                                           ("shows", "a", "b"), ("can", None), ("Can",), (None, "a"), ("reach", {})]:
+        wrong = [("can", "x"), ("reach",), ("reach", "a"), ("seen", "z"), ("shows", "x"), ("shows",), ("shows", ["a"]),
+                 ("reach", None), ("seen", 1), (["can"],), "can", {"can": 1}, ("shows", "a", "b"), ("can", None),
+                 ("Can",), (None, "a"), ("reach", {})]
+        for thing in plain.odd_things() + wrong:
             self.assertIs(inn.is_question(thing), False)
             self.raises((errors.BadQuestion, thing), inn.answer, thing)
         empty = Inn("a")
@@ -359,9 +363,10 @@ class TestBack(Held):
         inn.do(("hold", ("seen", "x")))
         inn.do(("hold", ("can",)))
         self.rejects((errors.WouldChange, ("seen", "x")), inn.do, ("paint", "d", "x"))
-        self.assertEqual([inn.undo() for _ in range(3)], [("hold", ("can",)), ("hold", ("seen", "x")), ("go", "x", "c")])
+        back = [("hold", ("can",)), ("hold", ("seen", "x")), ("go", "x", "c")]
+        self.assertEqual([inn.undo() for _ in range(3)], back)
         self.assertEqual(inn.where(), {"x": "b", "y": "b"})
-        self.assertEqual([inn.again() for _ in range(4)], [("go", "x", "c"), ("hold", ("seen", "x")), ("hold", ("can",)), None])
+        self.assertEqual([inn.again() for _ in range(4)], back[::-1] + [None])
         self.hold_against(inn, "a", LIVED + [("hold", ("seen", "x")), ("hold", ("can",))])
 
     def test_a_new_deed_ends_what_can_be_done_again(self):
@@ -452,7 +457,8 @@ class TestLimits(Held):
             deeds.append(("build", f"r{index}", f"r{chance.randrange(index)}"))
         deeds += [("come", f"p{index}", f"r{index}") for index in range(6)]
         deeds += [("watch", (kind,)) for kind in ("alone", "can", "lots", "left")]
-        deeds += [("watch", ("reach", "p0")), ("watch", ("seen", "p1")), ("watch", ("shows", "r9")), ("watch", ("reach", "p5"))]
+        more = [("reach", "p0"), ("seen", "p1"), ("shows", "r9"), ("reach", "p5")]
+        deeds += [("watch", question) for question in more]
         for deed in deeds:
             inn.do(deed)
         while inn.count() < 80:

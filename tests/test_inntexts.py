@@ -161,17 +161,20 @@ class TestRead(plain.Checks):
 
     def test_lines(self):
         for text, line in [
-                ("", 1), ("\n", 1), ("room a", 1), ("room a\nroom b", 2), ("room a\n\n", 2), (" room a\n", 1), ("door a b\n", 1),
-                ("watch can\n", 1), ("room A\n", 1), ("room a\nroom a\n", 2), ("room b\nroom a\n", 2), ("room a b\n", 1),
+                ("", 1), ("\n", 1), ("room a", 1), ("room a\nroom b", 2), ("room a\n\n", 2), (" room a\n", 1),
+                ("door a b\n", 1), ("watch can\n", 1), ("room A\n", 1), ("room a\nroom a\n", 2),
+                ("room b\nroom a\n", 2), ("room a b\n", 1),
                 ("room a\nin x a\nroom b\n", 3), ("room a\nroom b\ndoor b a\n", 3), ("room a\ndoor a b\nroom b\n", 2),
-                ("room a\nroom b\ndoor a b\ndoor a b\n", 4), ("room a\nface a x\n", 2), ("room a\nin x a\nface a x\n", 3),
-                ("room a\nroom b\nin x a\nface b y\n", 4), ("room a\nwatch seen x\n", 2), ("room a\nwatch can\nhold can\n", 3),
-                ("room a\nin x b\n", 2), ("room a\nin X a\n", 2), ("room a\nwatch  can\n", 2), ("room a\nwatch can \n", 2),
+                ("room a\nroom b\ndoor a b\ndoor a b\n", 4), ("room a\nface a x\n", 2),
+                ("room a\nin x a\nface a x\n", 3), ("room a\nroom b\nin x a\nface b y\n", 4),
+                ("room a\nwatch seen x\n", 2), ("room a\nwatch can\nhold can\n", 3), ("room a\nin x b\n", 2),
+                ("room a\nin X a\n", 2), ("room a\nwatch  can\n", 2), ("room a\nwatch can \n", 2),
                 ("room a\nwatch\n", 2), ("room a\nhold shows b\n", 2), ("room a\nroom a", 2), ("room a\n door", 2),
                 ("x\nroom a", 1), ("room a\r\n", 1), ("room\n", 1), ("room abcdefghijklm\n", 1), ("room a\nin x\n", 2)]:
             self.assertEqual(first_wrong(text), line, text)
             self.raises((errors.BadText, line), read_inn, text)
-        for text in ["room a\nwatch alone\nhold shows a\n", "room a\nroom b\nin x a\nin y a\nface b x\nhold lots\nwatch can\n"]:
+        for text in ["room a\nwatch alone\nhold shows a\n",
+                     "room a\nroom b\nin x a\nin y a\nface b x\nhold lots\nwatch can\n"]:
             self.assertEqual(write_inn(read_inn(text)), text)
 
     def test_no_string(self):

@@ -20,13 +20,15 @@ ENDS = {"y": "e", "x": "a"}
 FULL = {"d": "y", "e": "y", "a": "x", "b": "x", "c": "x"}
 OTHER = dict(zip("abcde", "xyyyy"))
 NO_FUNCTIONS = [thing for thing in plain.odd_things() if isinstance(thing, (int, str, list, tuple, dict, House))]
-NO_FUNCTIONS += [None, ROW, errors.FaceError(), Tower([ROW], ["a"], []), Piece(ROW, [], {}, dict.fromkeys("abcde")), Inn("a")]
+NO_FUNCTIONS += [None, ROW, errors.FaceError(), Tower([ROW], ["a"], []), Inn("a")]
+NO_FUNCTIONS += [Piece(ROW, [], {}, dict.fromkeys("abcde"))]
 
 
 def no_answers():
     return plain.odd_things() + [
-        ("look",), ("look", "a", "b"), ("look", "f"), ("look", None), ("look", ["a"]), ("look", 1), ("tell", "a"), "look",
-        ("tell",), ("tell", {}), ("tell", {**OTHER, "f": None}), ("tell", {**OTHER, "a": 1}), ("tell", None), ("b", "a"),
+        ("look",), ("look", "a", "b"), ("look", "f"), ("look", None), ("look", ["a"]), ("look", 1), ("tell", "a"),
+        ("tell",), ("tell", {}), ("tell", {**OTHER, "f": None}), ("tell", {**OTHER, "a": 1}), ("tell", None), "look",
+        ("b", "a"),
         ("tell", [("a", "x")]), (["look"], "a"), (None, "a"), {"look": "a"}, ("told", OTHER), ("Look", "a")]
 
 
@@ -114,7 +116,8 @@ def plain_beaten(house, placing, seen, answers, many):
         if index == many:
             return (faces, "much", maps[0]), index + 1
         people = sorted({told[answer[1]] for told in maps})
-        wanted = [plain_fewest(sorted(rooms), [told for told in maps if told[answer[1]] == person]) for person in people]
+        lots = [[told for told in maps if told[answer[1]] == person] for person in people]
+        wanted = [plain_fewest(sorted(rooms), lot) for lot in lots]
         faces[answer[1]] = people[wanted.index(max(wanted))]
     return None
 

@@ -147,7 +147,8 @@ class TestAlike(plain.Checks):
 
     def test_what_is_given_to_know(self):
         """Of all that could be given just what differs by more than new people beside others, or by their names."""
-        for gates, names in [([], []), (["a"], ["x"]), (["a", "b"], []), (["a", "b"], ["x", "y"]), (["a", "b", "c"], ["x"])]:
+        for gates, names in [([], []), (["a"], ["x"]), (["a", "b"], []), (["a", "b"], ["x", "y"]),
+                             (["a", "b", "c"], ["x"])]:
             told = [given_key(given, names) for given in parting.all_given(gates, names, ["p"])]
             self.assertEqual(len(told), len(set(told)))
             new = ["v", "w", "u"][:max(1, len(gates))]

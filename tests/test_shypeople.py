@@ -139,9 +139,10 @@ class TestShy(plain.Checks):
     def test_any_objects(self):
         shy = {"x": ["b", "d"]}
         self.assertIs(is_shy_why(H, P, F, shy, ("rooms", ["d", "a", "b"])), True)
-        for thing in plain.odd_things() + [("rooms", ["a", "b"]), ("rooms", ["a", "b", "d", "d"]), ("rooms", "abd"), ("room",),
-                                           ("rooms", {"a": 1, "b": 1, "d": 1}), ("rooms", ["a", "b", "d"], "c"), "rooms",
-                                           ("rooms", ["a", "b", "c", "d"]), ("rooms", ["b", "d"]), ("Rooms", ["a", "b", "d"])]:
+        wrong = [("rooms", ["a", "b"]), ("rooms", ["a", "b", "d", "d"]), ("rooms", "abd"), ("room",), "rooms",
+                 ("rooms", {"a": 1, "b": 1, "d": 1}), ("rooms", ["a", "b", "d"], "c"), ("rooms", ["a", "b", "c", "d"]),
+                 ("rooms", ["b", "d"]), ("Rooms", ["a", "b", "d"])]
+        for thing in plain.odd_things() + wrong:
             self.assertIs(is_shy_why(H, P, F, shy, thing), False)
         for thing in plain.odd_things():
             self.assertIs(is_shy_why(H, P, F, shy, ("rooms", thing)), False)
@@ -159,8 +160,8 @@ class TestShy(plain.Checks):
                 for shy in [{"x": thing}, {"x": [thing]}, {"y": [], "x": ["c", thing]}]:
                     if thing not in ([], ()):
                         self.raises((errors.BadShy, shy), call, H, P, F, shy)
-            for shy in [{"z": []}, {"x": ["a"]}, {"x": ["b", "b"]}, {"x": ["c"], "y": ["a", "b"]}, {"x": "b"}, {"x": None},
-                        {"x": {"b": 1}}, {None: []}, {1: ["b"]}, [("x", ["b"])]]:
+            for shy in [{"z": []}, {"x": ["a"]}, {"x": ["b", "b"]}, {"x": ["c"], "y": ["a", "b"]}, {"x": "b"},
+                        {"x": None}, {"x": {"b": 1}}, {None: []}, {1: ["b"]}, [("x", ["b"])]]:
                 self.raises((errors.BadShy, shy), call, H, P, F, shy)
         self.assertIsNone(shy_why(H, P, F, {"x": [], "y": ()}))
         self.assertEqual(shy_why(H, P, {**F, "b": None, "a": "y"}, {}), ("room", "x"))
@@ -215,11 +216,13 @@ class TestMust(plain.Checks):
         def can(some):
             return any(not visits & {tuple(claims[index]) for index in some} for visits in walks)
 
-        lists = [list(some) for many in range(len(claims) + 1) for some in itertools.combinations(range(len(claims)), many)]
+        indexes = range(len(claims))
+        lists = [list(some) for many in range(len(claims) + 1) for some in itertools.combinations(indexes, many)]
         clash = next((some for some in lists if not can(some)), None)
         self.assertEqual(claims_clash(house, placing, faces, claims), clash)
         self.assertIs(claims_can_be(house, placing, faces, [list(claim) for claim in claims]), clash is None)
-        self.assertEqual(most_claims(house, placing, faces, tuple(claims)), max(len(some) for some in lists if can(some)))
+        most = max(len(some) for some in lists if can(some))
+        self.assertEqual(most_claims(house, placing, faces, tuple(claims)), most)
 
     def test_larger(self):
         chance = random.Random(8)
@@ -240,7 +243,8 @@ class TestMust(plain.Checks):
             self.assertEqual(came_to(house, placing, faces), pairs)
             for room in rooms:
                 if faces[room]:
-                    self.assertEqual(needed_people(house, placing, faces, room), self.plain_needed(doors, placing, faces, room))
+                    wanted = self.plain_needed(doors, placing, faces, room)
+                    self.assertEqual(needed_people(house, placing, faces, room), wanted)
 
     def plain_needed(self, doors, placing, faces, room):
         told = []
@@ -264,7 +268,16 @@ class TestMust(plain.Checks):
                     self.raises((errors.NotSeen, room), needed_people, house, placing, faces, room)
 
     def test_facts(self):
-        # y's room lies behind x's; and x is not needed by y only because y takes in nothing for x.
+        """One can need another, not the other way about; and one another, that one a third, but the first not it."""
+        one_way = no_chain = False
+        for rooms, doors, placing, faces in plain.grown_cases(120, 11, sizes=(6, 7), most=3):
+            house = House(rooms, doors)
+            needs = {(faces[room], person) for room in rooms if faces[room]
+                     for person in needed_people(house, placing, faces, room)}
+            for one, other in needs:
+                one_way = one_way or (other, one) not in needs
+                no_chain = no_chain or any((other, third) in needs and (one, third) not in needs for third in placing)
+        self.assertEqual((one_way, no_chain), (True, True))
         row = House(["a", "b", "c", "d"], [("a", "b"), ("b", "c"), ("c", "d")])
         placing, faces = {"x": "a", "y": "b"}, {"a": "x", "b": "y", "c": "x", "d": "y"}
         self.assertEqual(needed_people(row, placing, faces, "c"), ["x", "y"])
@@ -307,7 +320,8 @@ class TestClaims(plain.Checks):
                 self.raises((errors.BadMap, thing), call, H, P, thing, None)
             for thing in plain.no_lists():
                 self.raises((errors.BadClaims, 0), call, H, P, STUCK, thing)
-            for thing in plain.no_pairs() + [("x", "a"), ("z", "a"), ("a", "x"), ("x", "b", "c"), ("x", "e"), ["y", "b"], ("x",)]:
+            wrong = [("x", "a"), ("z", "a"), ("a", "x"), ("x", "b", "c"), ("x", "e"), ["y", "b"], ("x",)]
+            for thing in plain.no_pairs() + wrong:
                 self.raises((errors.BadClaims, 0), call, H, P, STUCK, [thing, None])
                 self.raises((errors.BadClaims, 2), call, H, P, STUCK, [("x", "b"), ["x", "b"], thing])
 
@@ -317,7 +331,7 @@ class TestClaims(plain.Checks):
         self.assertIs(claims_can_be(H, P, F, [("x", "b")] * 9), True)
         self.assertEqual(most_claims(H, P, F, [("x", "c")]), 0)
         self.assertEqual(claims_clash(H, P, F, [("y", "a"), ("x", "c")]), [1])
-        self.assertEqual((claims_can_be(H, P, F, []), claims_clash(H, P, F, []), most_claims(H, P, F, [])), (True, None, 0))
+        self.assertEqual([call(H, P, F, []) for call in OF_CLAIMS], [True, None, 0])
 
 
 class TestLimits(plain.Checks):
@@ -337,9 +351,10 @@ class TestLimits(plain.Checks):
                 if walk is not None:
                     self.judge_walk(rooms, doors, walk, placing, faces)
                 taken = plain_taken(doors, placing, faces, shy)
-                self.assertEqual(shy_why(house, placing, faces, shy) is None, all(room in taken for room in rooms if faces[room]))
-            person = names[3]
-            self.assertLessEqual(set(must_rooms(house, placing, faces, person)), set(could_rooms(house, placing, faces, person)))
+                is_all = all(room in taken for room in rooms if faces[room])
+                self.assertEqual(shy_why(house, placing, faces, shy) is None, is_all)
+            must, could = [call(house, placing, faces, names[3]) for call in (must_rooms, could_rooms)]
+            self.assertLessEqual(set(must), set(could))
             claims = []
             while len(claims) < 8:
                 claim = chance.choice(names), chance.choice(rooms)

@@ -252,7 +252,8 @@ class TestLimits(plain.Checks):
             house = House(rooms, doors)
             start = dict(zip("xy", chance.sample(rooms, 2)))
             placing = dict(zip("xy", chance.sample(rooms, 2)))
-            total = sum(count_walks_with(house, start, 6, placing, faces) for faces in plain.maps(rooms, [None, "x", "y"]))
+            maps = plain.maps(rooms, [None, "x", "y"])
+            total = sum(count_walks_with(house, start, 6, placing, faces) for faces in maps)
             self.assertEqual(total, count_walks_to(house, start, 6, placing))
 
     def test_eight_rooms(self):
