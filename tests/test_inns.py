@@ -281,6 +281,24 @@ class TestDeeds(Held):
         self.assertGreater(many, 15)
 
 
+    def test_what_stays_so(self):
+        """Where the faces go they do so behind all deeds but those that wall, wipe or paint, each staying alone."""
+        chance = random.Random(5)
+        kinds = set()
+        for _ in range(80):
+            inn, deeds = Inn("a"), []
+            for _ in range(35):
+                deed = drawn_deed(chance, Book("a", deeds))
+                if outcome("a", deeds, deed)[0] is None:
+                    can = inn.answer(("can",))
+                    inn.do(deed)
+                    deeds.append(kept(deed))
+                    if can and deed[0] not in ("wall", "wipe", "paint") and inn.answer(("alone",)):
+                        kinds.add(deed[0])
+                        self.assertIs(inn.answer(("can",)), True)
+        self.assertLessEqual({"build", "door", "pull", "come", "go"}, kinds)
+
+
 class TestQuestions(Held):
     def test_any_objects(self):
         inn = inn_with(LIVED)

@@ -9,6 +9,7 @@ from math import comb
 import plain
 from lastfaces import errors
 from lastfaces.houses import House
+from lastfaces.otherhouses import part_of
 from lastfaces.walkchances import face_chances, left_chances, mean_seen, never_chance
 from lastfaces.walkcounts import count_first_with, count_walks, count_walks_to, count_walks_with, cover_counts
 
@@ -171,6 +172,21 @@ class TestCounts(plain.Checks):
             self.ascends(told)
         self.assertEqual(cover_counts(H, "a", 0), {1: 1})
         self.assertEqual(cover_counts(House(["a"], []), "a", 2), {})
+
+
+    def test_covered_by_parts(self):
+        """Through all rooms of a list and no others come a sum over its parts, with a minus for each that lacks."""
+        for rooms, doors in plain.five_room_houses():
+            house, begun, wanted = House(rooms, doors), rooms[0], {}
+            for many in range(1, 6):
+                for some in itertools.combinations(rooms, many):
+                    if begun in some:
+                        parts = [part for size in range(1, many + 1) for part in itertools.combinations(some, size)]
+                        count = sum((-1) ** (many - len(part)) * count_walks(part_of(house, part), {"x": begun}, 7)
+                                    for part in parts if begun in part)
+                        wanted[many] = wanted.get(many, 0) + count
+            told = cover_counts(house, begun, 7)
+            self.assertEqual(told, {many: count for many, count in wanted.items() if count})
 
 
 class TestChances(plain.Checks):
