@@ -8,6 +8,8 @@ from lastfaces.things import is_name
 
 # By the words with which lines begin: the lines of a lower number come ahead.
 STAGES = {"room": 0, "door": 1, "in": 2, "face": 3, "watch": 4, "hold": 4}
+# Of how many parts, from the first one, lines of a kind ascend: a person has one line, and so has a room's face.
+KEY_PARTS = {"room": 1, "door": 2, "in": 1, "face": 1}
 
 
 def write_inn(inn):
@@ -54,9 +56,10 @@ class Draft:
         if STAGES[kind] == 4:
             is_read = self._read_question(kind, tuple(parts))
         else:
-            is_read = self._is_next(kind, tuple(parts)) and self._read_parts(kind, parts)
+            key = tuple(parts[:KEY_PARTS[kind]])
+            is_read = self._is_next(kind, key) and self._read_parts(kind, parts)
+            self._key = key
         self._stage = STAGES[kind]
-        self._key = tuple(parts)
         return is_read
 
     def _is_next(self, kind, key):

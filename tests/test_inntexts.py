@@ -3,6 +3,7 @@
 import random
 import re
 import unittest
+from itertools import combinations, product
 
 import plain
 from plaininns import Book, outcome
@@ -82,12 +83,15 @@ def drawn_inn(chance):
 def spoilt(text, chance):
     """A text with something changed."""
     lines = text.split("\n")
-    kind = chance.choice(["drop", "twice", "swap", "word", "sign", "end", "more", "blank"])
+    kind = chance.choice(["drop", "twice", "again", "swap", "word", "sign", "end", "more", "blank"])
     at = chance.randrange(len(lines))
     if kind == "drop":
         del lines[at]
     if kind == "twice":
         lines.insert(at, chance.choice(lines))
+    if kind == "again":
+        words = lines[at].split(" ")
+        lines.insert(at + 1, " ".join([*words[:-1], chance.choice(["a", "b", "c", "d", "x", "y", "can", "left"])]))
     if kind == "swap":
         other = chance.randrange(len(lines))
         lines[at], lines[other] = lines[other], lines[at]
@@ -106,6 +110,22 @@ def spoilt(text, chance):
     if kind == "blank":
         lines[at] = chance.choice([" " + lines[at], lines[at] + " ", lines[at].replace(" ", "  ", 1)])
     return "\n".join(lines)
+
+
+def all_inns(rooms, people):
+    """All inns with just some rooms, with any doors between them, any of some people, and any faces."""
+    pairs = list(combinations(rooms, 2))
+    built = [("build", room, rooms[0]) for room in rooms[1:]]
+    doorings = product([False, True], repeat=len(pairs))
+    for doored, stood in product(doorings, product([None, *rooms], repeat=len(people))):
+        doors = [pair for pair, is_door in zip(pairs, doored) if is_door]
+        changed = [("door", *pair) for pair in doors if rooms[0] not in pair]
+        changed.extend([("wall", *pair) for pair in pairs if rooms[0] in pair and pair not in doors])
+        come = [("come", person, room) for person, room in zip(people, stood) if room is not None]
+        free = [room for room in rooms if room not in stood]
+        for faces in product([None, *[person for _, person, _ in come]], repeat=len(free)):
+            painted = [("paint", room, face) for room, face in zip(free, faces) if face is not None]
+            yield inn_with([*built, *changed, *come, *painted], rooms[0])
 
 
 class TestWrite(plain.Checks):
@@ -176,6 +196,47 @@ class TestRead(plain.Checks):
         for text in ["room a\nwatch alone\nhold shows a\n",
                      "room a\nroom b\nin x a\nin y a\nface b x\nhold lots\nwatch can\n"]:
             self.assertEqual(write_inn(read_inn(text)), text)
+
+    def test_told_twice(self):
+        """Nobody has two rooms, and no room two faces, whether or not the two lines ascend, or are alike."""
+        rooms = "room a\nroom b\nroom c\n"
+        stood = rooms + "in x a\nin y a\nin z a\n"
+        for text, line in [
+                (rooms + "in x a\nin x b\n", 5), (rooms + "in x b\nin x c\nin y a\n", 5),
+                (rooms + "in x b\nin x a\n", 5), (rooms + "in x c\nin x c\n", 5),
+                (rooms + "in w a\nin x b\nin y a\nin y b\nin y c\n", 7), (rooms + "in x b\nin y a\nin x c\n", 6),
+                (rooms + "door a b\nin x a\nin x b\nin y a\nin y b\n", 6), (rooms + "in x a\nin x b\nnonsense\n", 5),
+                (rooms + "in guest1 a\nin guest1 b\nface c guest1\nwatch seen guest1\n", 5),
+                (rooms + "in x a\nin x b\nroom", 5), (rooms + "in x a\nin x b", 5),
+                (stood + "face b x\nface b y\n", 8), (stood + "face b y\nface b z\nface c x\n", 8),
+                (stood + "face b y\nface b x\n", 8), (stood + "face c z\nface c z\n", 8),
+                (stood + "face b x\nface c x\nface c y\n", 9), (stood + "face b x\nface c x\nface b y\n", 9),
+                (stood + "face b x\nface b y\nface b z\n", 8), (stood + "face c y\nface c z\nwatch can\n", 8)]:
+            self.assertEqual(first_wrong(text), line, text)
+            self.raises((errors.BadText, line), read_inn, text)
+        for text in [rooms + "in x b\nin y b\nin z a\n", rooms + "door a b\ndoor a c\ndoor b c\n",
+                     stood + "face b x\nface c x\n", stood + "face b z\nface c y\n",
+                     "room a\nroom b\nin a b\nin b b\nface a a\n",
+                     "room a\nin x a\nin y a\nwatch seen x\nwatch seen y\nhold shows a\nwatch reach x\n"]:
+            self.assertIsNone(first_wrong(text))
+            self.assertEqual(write_inn(read_inn(text)), text)
+
+    def test_each_line_behind_each_text(self):
+        """A line can come behind the text of a small inn just if this, too, is the text of one."""
+        lines = [f"room {room}\n" for room in "abc"]
+        for kind, ones, others in [("door", "abc", "abc"), ("in", "xyz", "abc"), ("face", "abc", "xyz")]:
+            lines.extend([f"{kind} {one} {other}\n" for one, other in product(ones, others)])
+        texts = {}
+        for rooms in ["a", "b", "c", "ab", "ac", "bc", "abc"]:
+            for inn in all_inns(list(rooms), ["x", "y", "z"]):
+                texts[write_inn(inn)] = inn
+        wrong = 0
+        for text, inn in texts.items():
+            self.assertEqual(read_inn(text), inn)
+            for more in [text + line for line in lines if text + line not in texts]:
+                wrong += 1
+                self.raises((errors.BadText, more.count("\n")), read_inn, more)
+        self.assertGreater(wrong, 50000)
 
     def test_no_string(self):
         for thing in plain.odd_things():
